@@ -8,6 +8,7 @@ import (
 
 	"auspice/api"
 	"auspice/real"
+	"auspice/sample"
 	"auspice/value"
 )
 
@@ -24,11 +25,11 @@ func wanted(op int, l []api.Value) api.Value {
 	case kind == 0:
 		return api.Value{}
 	case op == api.OpNot:
-		return truth(1 - l[0].Bits)
+		return sample.Bool(1 - l[0].Bits)
 	case op == api.OpReal:
-		return float(real.OfInt(int64(l[0].Bits)))
+		return sample.Real(real.OfInt(int64(l[0].Bits)))
 	case op == api.OpNan:
-		return said(l[0].Bits == nan)
+		return said(l[0].Bits == sample.NaN)
 	case kind == api.Bool:
 		return wantedComparison(op, l[0], l[1])
 	case kind == api.Int:
@@ -39,15 +40,15 @@ func wanted(op int, l []api.Value) api.Value {
 
 func said(yes bool) api.Value {
 	if yes {
-		return truth(1)
+		return sample.Bool(1)
 	}
-	return truth(0)
+	return sample.Bool(0)
 }
 
 func wantedTruth(op int, a, b api.Value) api.Value {
-	strong := truth(0)
+	strong := sample.Bool(0)
 	if op == api.OpOr {
-		strong = truth(1)
+		strong = sample.Bool(1)
 	}
 	switch {
 	case a == strong, b == strong:
@@ -55,15 +56,15 @@ func wantedTruth(op int, a, b api.Value) api.Value {
 	case a.Kind != api.Bool, b.Kind != api.Bool:
 		return api.Value{}
 	}
-	return truth(1 - strong.Bits)
+	return sample.Bool(1 - strong.Bits)
 }
 
 func wantedComparison(op int, a, b api.Value) api.Value {
-	if a.Bits == nan && a.Kind == api.Real || b.Bits == nan && b.Kind == api.Real {
+	if a.Bits == sample.NaN && a.Kind == api.Real || b.Bits == sample.NaN && b.Kind == api.Real {
 		return said(op == api.OpNe)
 	}
 	order := value.Order(a, b)
-	if a.Kind == api.Real && a.Bits&^signBit == 0 && b.Bits&^signBit == 0 {
+	if a.Kind == api.Real && a.Bits&^sample.SignBit == 0 && b.Bits&^sample.SignBit == 0 {
 		order = 0
 	}
 	switch op {
@@ -105,22 +106,22 @@ func wantedInt(op int, l []api.Value) api.Value {
 	if !r.IsInt64() {
 		return api.Value{}
 	}
-	return number(r.Int64())
+	return sample.Int(r.Int64())
 }
 
 func wantedReal(op int, l []api.Value) api.Value {
 	a, b := l[0].Bits, l[len(l)-1].Bits
 	switch op {
 	case api.OpAdd:
-		return float(real.Add(a, b))
+		return sample.Real(real.Add(a, b))
 	case api.OpSub:
-		return float(real.Sub(a, b))
+		return sample.Real(real.Sub(a, b))
 	case api.OpMul:
-		return float(real.Mul(a, b))
+		return sample.Real(real.Mul(a, b))
 	case api.OpDiv:
-		return float(real.Div(a, b))
+		return sample.Real(real.Div(a, b))
 	}
-	return float(real.Neg(a))
+	return sample.Real(real.Neg(a))
 }
 
 // P2.3, and P2.1 (Clean of what is handed in): every operator, of none, one and two of all values.
@@ -150,7 +151,7 @@ func TestApplyInts(t *testing.T) {
 	for i := range 20000 {
 		x = x*6364136223846793005 + 1442695040888963407
 		y = y*2862933555777941757 + 3037000493
-		a, b := number(int64(x)>>(i%64)), number(int64(y)>>(i/64%64))
+		a, b := sample.Int(int64(x)>>(i%64)), sample.Int(int64(y)>>(i/64%64))
 		for _, op := range []int{api.OpAdd, api.OpSub, api.OpMul, api.OpDiv, api.OpMod, api.OpLt, api.OpGe} {
 			l := []api.Value{a, b}
 			checkApply(t, op, l, l)
@@ -161,7 +162,7 @@ func TestApplyInts(t *testing.T) {
 // P2.3: of three and more, no operator has an answer; OpAnd and OpOr neither, even where one would be enough.
 func TestApplyOfMany(t *testing.T) {
 	for _, op := range operators() {
-		for _, v := range []api.Value{number(1), truth(0), truth(1), float(one), symbol(1), {}} {
+		for _, v := range []api.Value{sample.Int(1), sample.Bool(0), sample.Bool(1), sample.Real(sample.One), sample.Sym(1), {}} {
 			for count := range 6 {
 				l := slices.Repeat([]api.Value{v}, count+3)
 				if got := value.Apply(op, l); got != (api.Value{}) {
@@ -181,52 +182,52 @@ func TestApplyEdges(t *testing.T) {
 		l      []api.Value
 		wanted api.Value
 	}{
-		{"the greatest + 1", api.OpAdd, []api.Value{number(math.MaxInt64), number(1)}, poison},
-		{"the least + -1", api.OpAdd, []api.Value{number(math.MinInt64), number(-1)}, poison},
-		{"the greatest + the least", api.OpAdd, []api.Value{number(math.MaxInt64), number(math.MinInt64)}, number(-1)},
-		{"0 - the least", api.OpSub, []api.Value{number(0), number(math.MinInt64)}, poison},
-		{"-1 - the least", api.OpSub, []api.Value{number(-1), number(math.MinInt64)}, number(math.MaxInt64)},
-		{"2^32 * 2^31", api.OpMul, []api.Value{number(1 << 32), number(1 << 31)}, poison},
-		{"2^32 * -2^31", api.OpMul, []api.Value{number(1 << 32), number(-1 << 31)}, number(math.MinInt64)},
-		{"the least * -1", api.OpMul, []api.Value{number(math.MinInt64), number(-1)}, poison},
-		{"-1 * the least", api.OpMul, []api.Value{number(-1), number(math.MinInt64)}, poison},
-		{"the least / -1", api.OpDiv, []api.Value{number(math.MinInt64), number(-1)}, poison},
-		{"the least / 0", api.OpDiv, []api.Value{number(math.MinInt64), number(0)}, poison},
-		{"-7 / 2", api.OpDiv, []api.Value{number(-7), number(2)}, number(-3)},
-		{"the least % -1", api.OpMod, []api.Value{number(math.MinInt64), number(-1)}, number(0)},
-		{"7 % 0", api.OpMod, []api.Value{number(7), number(0)}, poison},
-		{"7 % -2", api.OpMod, []api.Value{number(7), number(-2)}, number(1)},
-		{"-7 % 2", api.OpMod, []api.Value{number(-7), number(2)}, number(-1)},
-		{"- the least", api.OpNeg, []api.Value{number(math.MinInt64)}, poison},
-		{"- the greatest", api.OpNeg, []api.Value{number(math.MaxInt64)}, number(-math.MaxInt64)},
-		{"- 0.0", api.OpNeg, []api.Value{float(0)}, float(signBit)},
-		{"1.0 / 0.0", api.OpDiv, []api.Value{float(one), float(0)}, float(infinite)},
-		{"inf - inf", api.OpSub, []api.Value{float(infinite), float(infinite)}, float(nan)},
-		{"1.0 % 1.0", api.OpMod, []api.Value{float(one), float(one)}, poison},
-		{"1 + 1.0", api.OpAdd, []api.Value{number(1), float(one)}, poison},
-		{"-0 = 0", api.OpEq, []api.Value{float(signBit), float(0)}, truth(1)},
-		{"-0 < 0", api.OpLt, []api.Value{float(signBit), float(0)}, truth(0)},
-		{"NaN = NaN", api.OpEq, []api.Value{float(nan), float(nan)}, truth(0)},
-		{"NaN != NaN", api.OpNe, []api.Value{float(nan), float(nan)}, truth(1)},
-		{"NaN <= NaN", api.OpLe, []api.Value{float(nan), float(nan)}, truth(0)},
-		{"NaN >= 1", api.OpGe, []api.Value{float(nan), float(one)}, truth(0)},
-		{"yes < yes", api.OpLt, []api.Value{truth(1), truth(1)}, poison},
-		{"'a <= 'a", api.OpLe, []api.Value{symbol(0), symbol(0)}, poison},
-		{"'a = 'a", api.OpEq, []api.Value{symbol(0), symbol(0)}, truth(1)},
+		{"the greatest + 1", api.OpAdd, []api.Value{sample.Int(math.MaxInt64), sample.Int(1)}, poison},
+		{"the least + -1", api.OpAdd, []api.Value{sample.Int(math.MinInt64), sample.Int(-1)}, poison},
+		{"the greatest + the least", api.OpAdd, []api.Value{sample.Int(math.MaxInt64), sample.Int(math.MinInt64)}, sample.Int(-1)},
+		{"0 - the least", api.OpSub, []api.Value{sample.Int(0), sample.Int(math.MinInt64)}, poison},
+		{"-1 - the least", api.OpSub, []api.Value{sample.Int(-1), sample.Int(math.MinInt64)}, sample.Int(math.MaxInt64)},
+		{"2^32 * 2^31", api.OpMul, []api.Value{sample.Int(1 << 32), sample.Int(1 << 31)}, poison},
+		{"2^32 * -2^31", api.OpMul, []api.Value{sample.Int(1 << 32), sample.Int(-1 << 31)}, sample.Int(math.MinInt64)},
+		{"the least * -1", api.OpMul, []api.Value{sample.Int(math.MinInt64), sample.Int(-1)}, poison},
+		{"-1 * the least", api.OpMul, []api.Value{sample.Int(-1), sample.Int(math.MinInt64)}, poison},
+		{"the least / -1", api.OpDiv, []api.Value{sample.Int(math.MinInt64), sample.Int(-1)}, poison},
+		{"the least / 0", api.OpDiv, []api.Value{sample.Int(math.MinInt64), sample.Int(0)}, poison},
+		{"-7 / 2", api.OpDiv, []api.Value{sample.Int(-7), sample.Int(2)}, sample.Int(-3)},
+		{"the least % -1", api.OpMod, []api.Value{sample.Int(math.MinInt64), sample.Int(-1)}, sample.Int(0)},
+		{"7 % 0", api.OpMod, []api.Value{sample.Int(7), sample.Int(0)}, poison},
+		{"7 % -2", api.OpMod, []api.Value{sample.Int(7), sample.Int(-2)}, sample.Int(1)},
+		{"-7 % 2", api.OpMod, []api.Value{sample.Int(-7), sample.Int(2)}, sample.Int(-1)},
+		{"- the least", api.OpNeg, []api.Value{sample.Int(math.MinInt64)}, poison},
+		{"- the greatest", api.OpNeg, []api.Value{sample.Int(math.MaxInt64)}, sample.Int(-math.MaxInt64)},
+		{"- 0.0", api.OpNeg, []api.Value{sample.Real(0)}, sample.Real(sample.SignBit)},
+		{"1.0 / 0.0", api.OpDiv, []api.Value{sample.Real(sample.One), sample.Real(0)}, sample.Real(sample.Infinite)},
+		{"inf - inf", api.OpSub, []api.Value{sample.Real(sample.Infinite), sample.Real(sample.Infinite)}, sample.Real(sample.NaN)},
+		{"1.0 % 1.0", api.OpMod, []api.Value{sample.Real(sample.One), sample.Real(sample.One)}, poison},
+		{"1 + 1.0", api.OpAdd, []api.Value{sample.Int(1), sample.Real(sample.One)}, poison},
+		{"-0 = 0", api.OpEq, []api.Value{sample.Real(sample.SignBit), sample.Real(0)}, sample.Bool(1)},
+		{"-0 < 0", api.OpLt, []api.Value{sample.Real(sample.SignBit), sample.Real(0)}, sample.Bool(0)},
+		{"NaN = NaN", api.OpEq, []api.Value{sample.Real(sample.NaN), sample.Real(sample.NaN)}, sample.Bool(0)},
+		{"NaN != NaN", api.OpNe, []api.Value{sample.Real(sample.NaN), sample.Real(sample.NaN)}, sample.Bool(1)},
+		{"NaN <= NaN", api.OpLe, []api.Value{sample.Real(sample.NaN), sample.Real(sample.NaN)}, sample.Bool(0)},
+		{"NaN >= 1", api.OpGe, []api.Value{sample.Real(sample.NaN), sample.Real(sample.One)}, sample.Bool(0)},
+		{"yes < yes", api.OpLt, []api.Value{sample.Bool(1), sample.Bool(1)}, poison},
+		{"'a <= 'a", api.OpLe, []api.Value{sample.Sym(0), sample.Sym(0)}, poison},
+		{"'a = 'a", api.OpEq, []api.Value{sample.Sym(0), sample.Sym(0)}, sample.Bool(1)},
 		{"poison = poison", api.OpEq, []api.Value{{}, {}}, poison},
-		{"poison AND no", api.OpAnd, []api.Value{{}, truth(0)}, truth(0)},
-		{"no AND 'a", api.OpAnd, []api.Value{truth(0), symbol(0)}, truth(0)},
-		{"yes AND poison", api.OpAnd, []api.Value{truth(1), {}}, poison},
-		{"yes AND a loose no", api.OpAnd, []api.Value{truth(1), truth(2)}, poison},
-		{"poison OR yes", api.OpOr, []api.Value{{}, truth(1)}, truth(1)},
-		{"3 OR no", api.OpOr, []api.Value{number(3), truth(0)}, poison},
-		{"1 OR no", api.OpOr, []api.Value{number(1), truth(0)}, poison},
+		{"poison AND no", api.OpAnd, []api.Value{{}, sample.Bool(0)}, sample.Bool(0)},
+		{"no AND 'a", api.OpAnd, []api.Value{sample.Bool(0), sample.Sym(0)}, sample.Bool(0)},
+		{"yes AND poison", api.OpAnd, []api.Value{sample.Bool(1), {}}, poison},
+		{"yes AND a loose no", api.OpAnd, []api.Value{sample.Bool(1), sample.Bool(2)}, poison},
+		{"poison OR yes", api.OpOr, []api.Value{{}, sample.Bool(1)}, sample.Bool(1)},
+		{"3 OR no", api.OpOr, []api.Value{sample.Int(3), sample.Bool(0)}, poison},
+		{"1 OR no", api.OpOr, []api.Value{sample.Int(1), sample.Bool(0)}, poison},
 		{"NOT poison", api.OpNot, []api.Value{{}}, poison},
-		{"NOT 0", api.OpNot, []api.Value{number(0)}, poison},
-		{"REAL of 2^53 + 1", api.OpReal, []api.Value{number(1<<53 + 1)}, float(0x4340000000000000)},
-		{"REAL of 1.0", api.OpReal, []api.Value{float(one)}, poison},
-		{"NAN of a foreign NaN", api.OpNan, []api.Value{float(math.MaxUint64)}, truth(1)},
-		{"NAN of inf", api.OpNan, []api.Value{float(infinite)}, truth(0)},
+		{"NOT 0", api.OpNot, []api.Value{sample.Int(0)}, poison},
+		{"REAL of 2^53 + 1", api.OpReal, []api.Value{sample.Int(1<<53 + 1)}, sample.Real(0x4340000000000000)},
+		{"REAL of 1.0", api.OpReal, []api.Value{sample.Real(sample.One)}, poison},
+		{"NAN of a foreign NaN", api.OpNan, []api.Value{sample.Real(math.MaxUint64)}, sample.Bool(1)},
+		{"NAN of inf", api.OpNan, []api.Value{sample.Real(sample.Infinite)}, sample.Bool(0)},
 		{"NAN of poison", api.OpNan, []api.Value{{}}, poison},
 	} {
 		if got := value.Apply(c.op, c.l); got != c.wanted {
@@ -254,7 +255,7 @@ func TestApplyIsOfResultsKind(t *testing.T) {
 
 // The rule on memory: what is handed in isn't changed, spare room included.
 func TestApplyLeavesItsList(t *testing.T) {
-	whole := []api.Value{float(math.MaxUint64), truth(2), symbol(99), {Kind: 9, Bits: 9}}
+	whole := []api.Value{sample.Real(math.MaxUint64), sample.Bool(2), sample.Sym(99), {Kind: 9, Bits: 9}}
 	before := slices.Clone(whole)
 	for _, op := range operators() {
 		for count := range len(whole) {

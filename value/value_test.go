@@ -6,50 +6,36 @@ import (
 	"testing"
 
 	"auspice/api"
+	"auspice/sample"
 	"auspice/value"
 )
-
-const (
-	nan      = 0x7ff8000000000000
-	infinite = 0x7ff0000000000000
-	signBit  = 0x8000000000000000
-	one      = 0x3ff0000000000000
-)
-
-func number(n int64) api.Value { return api.Value{Kind: api.Int, Bits: uint64(n)} }
-
-func truth(bits uint64) api.Value { return api.Value{Kind: api.Bool, Bits: bits} }
-
-func symbol(bits uint64) api.Value { return api.Value{Kind: api.Sym, Bits: bits} }
-
-func float(bits uint64) api.Value { return api.Value{Kind: api.Real, Bits: bits} }
 
 // rising are values of the form, in the order that P2.1 tells.
 var rising = []api.Value{
 	{},
-	number(math.MinInt64), number(math.MinInt64 + 1), number(-1 << 31), number(-7), number(-2), number(-1),
-	number(0), number(1), number(2), number(7), number(3037000500), number(1 << 53), number(math.MaxInt64 - 1), number(math.MaxInt64),
-	truth(0), truth(1),
-	symbol(0), symbol(1), symbol(api.MaxSyms - 1),
-	float(signBit | infinite), float(signBit | one), float(signBit | 1), float(signBit),
-	float(0), float(1), float(one), float(0x3ff8000000000000), float(0x7fefffffffffffff), float(infinite), float(nan),
+	sample.Int(math.MinInt64), sample.Int(math.MinInt64 + 1), sample.Int(-1 << 31), sample.Int(-7), sample.Int(-2), sample.Int(-1),
+	sample.Int(0), sample.Int(1), sample.Int(2), sample.Int(7), sample.Int(3037000500), sample.Int(1 << 53), sample.Int(math.MaxInt64 - 1), sample.Int(math.MaxInt64),
+	sample.Bool(0), sample.Bool(1),
+	sample.Sym(0), sample.Sym(1), sample.Sym(api.MaxSyms - 1),
+	sample.Real(sample.SignBit | sample.Infinite), sample.Real(sample.SignBit | sample.One), sample.Real(sample.SignBit | 1), sample.Real(sample.SignBit),
+	sample.Real(0), sample.Real(1), sample.Real(sample.One), sample.Real(0x3ff8000000000000), sample.Real(0x7fefffffffffffff), sample.Real(sample.Infinite), sample.Real(sample.NaN),
 }
 
 // loose are values that count as another one: what each counts as stands beside it.
 var loose = []struct{ v, counts api.Value }{
 	{api.Value{Kind: api.Poison, Bits: 1}, api.Value{}},
 	{api.Value{Kind: api.Poison, Bits: math.MaxUint64}, api.Value{}},
-	{truth(2), api.Value{}},
-	{truth(math.MaxUint64), api.Value{}},
-	{symbol(api.MaxSyms), api.Value{}},
-	{symbol(math.MaxUint64), api.Value{}},
+	{sample.Bool(2), api.Value{}},
+	{sample.Bool(math.MaxUint64), api.Value{}},
+	{sample.Sym(api.MaxSyms), api.Value{}},
+	{sample.Sym(math.MaxUint64), api.Value{}},
 	{api.Value{Kind: 5, Bits: 1}, api.Value{}},
 	{api.Value{Kind: -1, Bits: 1}, api.Value{}},
 	{api.Value{Kind: math.MaxInt}, api.Value{}},
 	{api.Value{Kind: math.MinInt}, api.Value{}},
-	{float(0x7ff0000000000001), float(nan)},
-	{float(0xfff8000000000000), float(nan)},
-	{float(math.MaxUint64), float(nan)},
+	{sample.Real(0x7ff0000000000001), sample.Real(sample.NaN)},
+	{sample.Real(0xfff8000000000000), sample.Real(sample.NaN)},
+	{sample.Real(math.MaxUint64), sample.Real(sample.NaN)},
 }
 
 // all are the values above, and what each counts as.
@@ -81,13 +67,13 @@ func TestSame(t *testing.T) {
 			}
 		}
 	}
-	if value.Same(float(signBit), float(0)) {
+	if value.Same(sample.Real(sample.SignBit), sample.Real(0)) {
 		t.Error("-0 is the Same as 0")
 	}
-	if !value.Same(float(math.MaxUint64), float(nan)) {
+	if !value.Same(sample.Real(math.MaxUint64), sample.Real(sample.NaN)) {
 		t.Error("NaN isn't the Same as NaN")
 	}
-	if value.Same(number(1), truth(1)) {
+	if value.Same(sample.Int(1), sample.Bool(1)) {
 		t.Error("1 is the Same as yes")
 	}
 }

@@ -287,3 +287,25 @@ func TestMemory(t *testing.T) {
 		t.Errorf("the schema is changed: %v", s)
 	}
 }
+
+// P1: no call panics, whatever the schema, the kinds and the event are.
+func TestAnyArguments(t *testing.T) {
+	odd := api.Schema{
+		Types: []api.Type{{}, {Name: "Buy"}, {Name: "Buy", Fields: []api.Field{{Kind: math.MinInt}, {Name: "x", Kind: api.Sym}, {Kind: math.MaxInt}}}},
+		Syms:  []string{"", "ann", "ann", "\xff"},
+	}
+	for _, s := range append(refused(), odd, market(), api.Schema{}) {
+		for _, c := range bad {
+			event.Valid(s, c.e)
+			event.Line(s, c.e)
+			event.Script(s, []api.Event{c.e, {}, c.e})
+			for _, syms := range []int{math.MinInt, -1, 0, 1, math.MaxInt} {
+				event.Fits(event.Kinds(s), syms, c.e)
+				event.Fits([][]int{nil, {math.MinInt, math.MaxInt}}, syms, c.e)
+			}
+		}
+		for _, line := range []string{"", " ", "   ", "Buy 1 ' '", " 1 'ann #", "Buy -1 '\xff \xff", "\x00"} {
+			event.Parse(s, line)
+		}
+	}
+}

@@ -4,6 +4,7 @@ import (
 	"iter"
 
 	"auspice/api"
+	"auspice/tree"
 )
 
 // mostNodes is the document's bound of what a program is given: further on no count is promised.
@@ -59,32 +60,11 @@ func Nodes(e api.Expr) int {
 	return counts[&e]
 }
 
-// pair is two nodes that stand at one place of two trees.
-type pair struct {
-	a, b *api.Expr
-}
-
 func Same(a, b api.Expr) bool {
-	met := map[pair]struct{}{}
-	open := []pair{{&a, &b}}
-	for len(open) > 0 {
-		p := open[len(open)-1]
-		open = open[:len(open)-1]
-		if _, ok := met[p]; ok {
-			continue
-		}
-		met[p] = struct{}{}
-		if !alike(p.a, p.b) {
-			return false
-		}
-		for i := range p.a.Args {
-			open = append(open, pair{&p.a.Args[i], &p.b.Args[i]})
-		}
-	}
-	return true
+	return tree.Same(&a, &b, func(n *api.Expr) []api.Expr { return n.Args }, alike)
 }
 
-// alike tells whether two nodes are the same, At aside, and have as many Args.
+// alike tells whether two nodes are the same, At and Args aside.
 func alike(a, b *api.Expr) bool {
-	return a.Op == b.Op && a.N == b.N && a.Scale == b.Scale && a.Name == b.Name && a.Attr == b.Attr && len(a.Args) == len(b.Args)
+	return a.Op == b.Op && a.N == b.N && a.Scale == b.Scale && a.Name == b.Name && a.Attr == b.Attr
 }

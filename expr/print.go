@@ -82,12 +82,12 @@ func nodeOfForm(n *api.Expr) bool {
 	if operands == 0 {
 		return leafOfForm(n)
 	}
-	return len(n.Args) == operands && alike(n, &api.Expr{Op: n.Op, Args: n.Args})
+	return len(n.Args) == operands && alike(n, &api.Expr{Op: n.Op})
 }
 
 // leafOfForm has the leaf's text read: it is of the form just where it comes back, so what names and numbers may be is told in one place.
 func leafOfForm(n *api.Expr) bool {
 	l, _, _ := lex.Scan(leafText(*n))
 	e, next, _, err := Read(l, 0)
-	return err == api.OK && l[next].Kind == api.TokEnd && alike(n, &e)
+	return err == api.OK && l[next].Kind == api.TokEnd && len(n.Args) == 0 && alike(n, &e)
 }

@@ -4,65 +4,22 @@ import (
 	"strings"
 
 	"auspice/api"
+	"auspice/words"
 )
 
-// fault is what a parser gives up with (by panic) where it can't go on.
-type fault struct {
-	at  int
-	err api.Errno
-}
-
-// parser reads tokens from left to right, one ahead.
+// parser reads an expression: of its words it is the reader, and it counts what nests.
 type parser struct {
-	tokens []api.Token
-	next   int // the place of the first token that isn't read
-	nest   int // how many of what nests stand open
-}
-
-// look is the next token. A list made by hand may lack its end.
-func (p *parser) look() api.Token {
-	if p.next >= len(p.tokens) {
-		return api.Token{}
-	}
-	return p.tokens[p.next]
-}
-
-func (p *parser) take() api.Token {
-	t := p.look()
-	p.next++
-	return t
-}
-
-// mark is what a word or a sign says; of other tokens it is empty.
-func mark(t api.Token) string {
-	if t.Kind == api.TokWord || t.Kind == api.TokSign {
-		return t.Text
-	}
-	return ""
-}
-
-func giveUp(t api.Token, err api.Errno) {
-	panic(fault{t.At, err})
-}
-
-func (p *parser) need(wanted string) {
-	if t := p.take(); mark(t) != wanted {
-		giveUp(t, api.ErrSyntax)
-	}
+	words.Reader
+	nest int // how many of what nests stand open
 }
 
 func (p *parser) name() string {
-	t := p.take()
-	if t.Kind != api.TokName {
-		giveUp(t, api.ErrSyntax)
-	}
-	return strings.Clone(t.Text)
+	return strings.Clone(p.NeedKind(api.TokName).Text)
 }
 
 func (p *parser) field() string {
-	p.need(".")
-	if mark(p.look()) == markTime {
-		p.take()
+	p.Need(".")
+	if p.Skip(markTime) {
 		return markTime
 	}
 	return p.name()
@@ -72,11 +29,11 @@ func (p *parser) field() string {
 func (p *parser) expression(least int) api.Expr {
 	e, binds := p.operand(least)
 	for {
-		o, ok := infixOfMark(mark(p.look()))
+		o, ok := infixOfMark(words.Mark(p.Look()))
 		if !ok || o.binds < least || binds < o.left() {
 			return e
 		}
-		at := p.take().At
+		at := p.Take().At
 		right := p.expression(o.right())
 		e, binds = api.Expr{Op: o.op, Args: []api.Expr{e, right}, At: at}, o.binds
 	}
@@ -84,11 +41,11 @@ func (p *parser) expression(least int) api.Expr {
 
 // operand is what stands ahead of an operator between two, and how it binds.
 func (p *parser) operand(least int) (api.Expr, int) {
-	t := p.take()
-	if o, ok := prefixOfMark(mark(t)); ok && o.binds >= least {
+	t := p.Take()
+	if o, ok := prefixOfMark(words.Mark(t)); ok && o.binds >= least {
 		return api.Expr{Op: o.op, Args: []api.Expr{p.prefixed(o, t)}, At: t.At}, o.binds
 	}
-	if mark(t) == "(" {
+	if words.Mark(t) == "(" {
 		return p.inBrackets(t), bindLeaf
 	}
 	e := p.leaf(t)
@@ -99,11 +56,11 @@ func (p *parser) operand(least int) (api.Expr, int) {
 func (p *parser) prefixed(o prefix, t api.Token) api.Expr {
 	p.open(t)
 	if o.bracketed() {
-		p.need(o.between)
+		p.Need(o.between)
 	}
 	e := p.expression(o.operand)
 	if o.bracketed() {
-		p.need(o.behind)
+		p.Need(o.behind)
 	}
 	p.nest--
 	return e
@@ -112,7 +69,7 @@ func (p *parser) prefixed(o prefix, t api.Token) api.Expr {
 func (p *parser) inBrackets(t api.Token) api.Expr {
 	p.open(t)
 	e := p.expression(loosest)
-	p.need(")")
+	p.Need(")")
 	p.nest--
 	return e
 }
@@ -120,7 +77,7 @@ func (p *parser) inBrackets(t api.Token) api.Expr {
 // open counts what nests, which t opens.
 func (p *parser) open(t api.Token) {
 	if p.nest == api.MaxDeep {
-		giveUp(t, api.ErrDeep)
+		words.GiveUp(t, api.ErrDeep)
 	}
 	p.nest++
 }
@@ -137,7 +94,7 @@ func (p *parser) leaf(t api.Token) api.Expr {
 	case api.TokName:
 		return api.Expr{Op: api.Attr, Name: strings.Clone(t.Text), Attr: p.field()}
 	}
-	switch mark(t) {
+	switch words.Mark(t) {
 	case markYes:
 		return api.Expr{Op: api.LitBool, N: 1}
 	case markNo:
@@ -148,16 +105,16 @@ func (p *parser) leaf(t api.Token) api.Expr {
 
 // gathered is what is made of many events.
 func (p *parser) gathered(t api.Token) api.Expr {
-	op, ofField := gatherOfMark(mark(t))
-	if !ofField && mark(t) != markCount {
-		giveUp(t, api.ErrSyntax)
+	op, ofField := gatherOfMark(words.Mark(t))
+	if !ofField && words.Mark(t) != markCount {
+		words.GiveUp(t, api.ErrSyntax)
 	}
 	e := api.Expr{Op: api.Count}
-	p.need("(")
+	p.Need("(")
 	e.Name = p.name()
 	if ofField {
 		e.Op, e.Attr = op, p.field()
 	}
-	p.need(")")
+	p.Need(")")
 	return e
 }

@@ -3,6 +3,7 @@ package expr
 import (
 	"auspice/api"
 	"auspice/lex"
+	"auspice/tree"
 )
 
 // written is the text of a tree, and how deep it nests.
@@ -63,7 +64,7 @@ func leafText(e api.Expr) string {
 }
 
 func ofForm(e *api.Expr) bool {
-	for n := range nodes(e) {
+	for n := range tree.Upward(e, args) {
 		if !nodeOfForm(n) {
 			return false
 		}

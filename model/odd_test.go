@@ -2,7 +2,6 @@ package model_test
 
 import (
 	"fmt"
-	"math"
 	"math/rand/v2"
 	"slices"
 	"testing"
@@ -13,63 +12,18 @@ import (
 	"auspice/sample"
 )
 
-// odd makes plans, scripts and bindings with anything in them.
+// odd makes scripts and bindings with anything in them, beside plans.
 type odd struct {
-	*rand.Rand
-}
-
-// number is a small one as a rule.
-func (o odd) number() int {
-	if o.IntN(4) > 0 {
-		return o.IntN(4) - 1
-	}
-	return []int{math.MinInt, -2, 4, 9, 1 << 40, math.MaxInt}[o.IntN(6)]
-}
-
-func (o odd) node(deep int) api.Node {
-	ops := []int{-1, 0, api.OpAdd, api.OpEq, api.OpGe, api.OpAnd, api.OpOr, api.OpNot, api.LitInt, api.Attr, api.Count, api.First, api.Last, api.Sum, api.Mean, api.Const, api.Cur, api.Of, 99}
-	n := api.Node{Op: ops[o.IntN(len(ops))], Kind: o.number(), Pos: o.number(), Attr: o.number(), Value: sample.Bool(uint64(o.IntN(3)))}
-	for range o.IntN(3) * min(deep, 1) {
-		n.Args = append(n.Args, o.node(deep-1))
-	}
-	return n
-}
-
-// nodes are most often such as hold, or none.
-func (o odd) nodes() []api.Node {
-	l := []api.Node{}
-	for range o.IntN(3) {
-		if o.IntN(3) > 0 {
-			l = append(l, api.Node{Op: api.Const, Value: sample.Bool(1)})
-		} else {
-			l = append(l, o.node(3))
-		}
-	}
-	return l
-}
-
-func (o odd) plan() api.Plan {
-	p := api.Plan{Strategy: o.number()}
-	for range o.IntN(4) * o.IntN(2) {
-		p.Keys = append(p.Keys, o.number())
-	}
-	for range o.IntN(3) {
-		b := api.Branch{Id: o.number(), Window: int64(o.number())}
-		for range o.IntN(4) {
-			b.Parts = append(b.Parts, api.Part{Form: []int{api.One, api.Many, api.Not, o.number()}[o.IntN(4)], Type: o.number(), Guards: o.nodes(), Closes: o.nodes()})
-		}
-		p.Branches = append(p.Branches, b)
-	}
-	return p
+	sample.Odd
 }
 
 // script is one of events that needn't be valid, nor in order.
 func (o odd) script() []api.Event {
 	l := []api.Event{}
-	for range o.IntN(6) {
-		e := api.Event{Type: o.number(), Time: int64(o.number())}
-		for range o.IntN(3) {
-			e.Attrs = append(e.Attrs, api.Value{Kind: o.number(), Bits: uint64(o.number())})
+	for range o.Pick(6) {
+		e := api.Event{Type: o.Number(), Time: int64(o.Number())}
+		for range o.Pick(3) {
+			e.Attrs = append(e.Attrs, api.Value{Kind: o.Number(), Bits: uint64(o.Number())})
 		}
 		l = append(l, e)
 	}
@@ -78,10 +32,10 @@ func (o odd) script() []api.Event {
 
 func (o odd) bound() [][]int {
 	l := [][]int{}
-	for range o.IntN(4) {
+	for range o.Pick(4) {
 		places := []int{}
-		for range o.IntN(3) {
-			places = append(places, o.number())
+		for range o.Pick(3) {
+			places = append(places, o.Number())
 		}
 		l = append(l, places)
 	}
@@ -90,17 +44,17 @@ func (o odd) bound() [][]int {
 
 // P1: all calls end, and none panics, whatever they are given.
 func TestAnything(t *testing.T) {
-	o, schema := odd{rand.New(rand.NewPCG(11, 2))}, market()
+	o, schema := odd{sample.Odd{Pick: rand.New(rand.NewPCG(11, 2)).IntN}}, market()
 	for i := range 4 {
 		schema.Types[i].Fields = nil // so that more scripts are valid
 	}
 	begun := 0
 	for range 60000 {
-		p, l := o.plan(), o.script()
-		model.Stream(p.Keys, l, o.number())
-		model.Over(l, o.number(), int64(o.number()))
+		p, l := o.Plan(), o.script()
+		model.Stream(p.Keys, l, o.Number())
+		model.Over(l, o.Number(), int64(o.Number()))
 		for _, bound := range [][][]int{o.bound(), {{0}}, {{0}, {1}}, {{0, 1}, {2}}} {
-			if model.Begins(p, o.number(), l, bound) {
+			if model.Begins(p, o.Number(), l, bound) {
 				begun++
 			}
 		}

@@ -1,7 +1,6 @@
 package plan_test
 
 import (
-	"math"
 	"slices"
 	"testing"
 
@@ -43,14 +42,7 @@ func changedNodes(l []api.Node) [][]api.Node {
 	}
 	for i := range l {
 		add(func(l []api.Node) []api.Node { return slices.Delete(l, i, i+1) })
-		for _, change := range []func(n *api.Node){
-			func(n *api.Node) { n.Op++ },
-			func(n *api.Node) { n.Kind-- },
-			func(n *api.Node) { n.Value.Kind++ },
-			func(n *api.Node) { n.Value.Bits ^= 1 << 63 },
-			func(n *api.Node) { n.Pos ^= math.MinInt },
-			func(n *api.Node) { n.Attr-- },
-		} {
+		for _, change := range sample.Changes() {
 			add(func(l []api.Node) []api.Node { change(&l[i]); return l })
 		}
 		for _, args := range changedNodes(l[i].Args) {
@@ -143,32 +135,15 @@ func TestSameNames(t *testing.T) {
 
 // P1: nodes that go round in a circle, that share, that are very deep.
 func TestSameOdd(t *testing.T) {
-	circle := func(width int) api.Node {
-		l := make([]api.Node, width)
-		for i := range l {
-			l[i] = op(api.OpAdd, api.Int, l...)
-		}
-		return l[width-1]
-	}
-	shared := func() api.Node {
-		n := number(1)
-		for range 200 {
-			n = op(api.OpAdd, api.Int, n, n)
-		}
-		return n
-	}
-	far := func(times int) api.Node {
-		n := number(1)
-		for range times {
-			n = op(api.OpNeg, api.Int, n)
-		}
-		return n
+	far := func(times int) api.Node { return sample.Far(api.OpNeg, times, number(1)) }
+	odd := func() []api.Node {
+		return []api.Node{sample.Circle(api.OpAdd, 1), sample.Circle(api.OpAdd, 2), sample.Shared(api.OpAdd, 200, number(1)), far(1000000)}
 	}
 	with := func(n api.Node) api.Plan {
 		return api.Plan{Branches: []api.Branch{{Parts: []api.Part{{Guards: []api.Node{n, n}}}}}}
 	}
-	for i, a := range []api.Node{circle(1), circle(2), shared(), far(1000000)} {
-		for j, b := range []api.Node{circle(1), circle(2), shared(), far(1000000)} {
+	for i, a := range odd() {
+		for j, b := range odd() {
 			if plan.Same(with(a), with(b)) != (i == j) {
 				t.Errorf("Same of the plans %d and %d", i, j)
 			}

@@ -1,0 +1,77 @@
+package nodes_test
+
+import (
+	"math"
+	"math/rand/v2"
+	"testing"
+
+	"auspice/api"
+	"auspice/nodes"
+	"auspice/sample"
+	"auspice/tree"
+)
+
+func wantCopy(t *testing.T, n api.Node) {
+	t.Helper()
+	m := nodes.Copied(n)
+	if !nodes.Same(n, m) || !nodes.Same(m, n) {
+		t.Fatalf("a copy of %+v: %+v", n, m)
+	}
+	if !sample.Apart([][]api.Node{m.Args}, [][]api.Node{n.Args}) {
+		t.Fatalf("a copy of %+v shares memory", n)
+	}
+}
+
+func TestCopied(t *testing.T) {
+	o := sample.Odd{Pick: rand.New(rand.NewPCG(13, 1)).IntN}
+	for range 5000 {
+		n := o.Node(o.Pick(6))
+		wantCopy(t, n)
+		wantCopy(t, sample.Shared(api.OpAnd, o.Pick(5), n))
+		n.Args = append(make([]api.Node, 0, 9), n.Args...)
+		wantCopy(t, n)
+	}
+	wantCopy(t, api.Node{Args: make([]api.Node, 0, 3)})
+}
+
+// A copy of a great tree is the same, and shares with none but itself; one of a circle ends.
+func TestCopiedOdd(t *testing.T) {
+	leaf := api.Node{Op: api.Cur, Attr: 3}
+	for _, n := range []api.Node{sample.Shared(api.OpAnd, 18, leaf), sample.Shared(api.OpAnd, 400, leaf), sample.Far(api.OpNot, 1000000, leaf)} {
+		m := nodes.Copied(n)
+		if !nodes.Same(n, m) {
+			t.Error("a copy is another")
+		}
+		met := map[*api.Node]struct{}{}
+		for x := range tree.Upward(&n, nodes.Args) {
+			met[x] = struct{}{}
+		}
+		for x := range tree.Upward(&m, nodes.Args) {
+			if _, ok := met[x]; ok {
+				t.Fatal("a copy shares memory")
+			}
+		}
+	}
+	for width := 1; width < 6; width++ {
+		if m := nodes.Copied(sample.Circle(api.OpNot, width)); m.Op != api.OpNot || len(m.Args) != width || tree.Count(&m, nodes.Args) == math.MaxInt32 {
+			t.Errorf("a circle of %d: %+v", width, m)
+		}
+	}
+}
+
+func TestCopies(t *testing.T) {
+	one := sample.Shared(api.OpAnd, 2, api.Node{Op: api.Cur})
+	l := append(make([]api.Node, 0, 7), one, api.Node{Op: 3}, one)
+	m := nodes.Copies(l)
+	if !sample.Apart([][]api.Node{m}, [][]api.Node{l}) {
+		t.Error("copies share memory")
+	}
+	for i := range l {
+		if len(m) != 3 || !nodes.Same(l[i], m[i]) {
+			t.Errorf("%+v of %+v", m, l)
+		}
+	}
+	if len(nodes.Copies(nil)) != 0 {
+		t.Error("copies of none")
+	}
+}

@@ -6,6 +6,7 @@ import (
 
 	"auspice/api"
 	"auspice/eval"
+	"auspice/streams"
 )
 
 // position is a positive part of a branch, with the Nots between it and the next one, of the last one those behind it.
@@ -89,7 +90,7 @@ func (w *walk) firstTakes(yield func(take) bool) {
 		return
 	}
 	for place, e := range w.script {
-		if _, ok := keyOf(w.plan.Keys, e); ok && w.fits(0, place) && !yield(take{place, 0}) {
+		if _, ok := streams.Key(w.plan.Keys, e); ok && w.fits(0, place) && !yield(take{place, 0}) {
 			return
 		}
 	}
@@ -149,7 +150,7 @@ func (w *walk) closes() bool {
 
 // rest are the places of the stream's events behind the last one, as far as the window goes.
 func (w *walk) rest() []int {
-	key, _ := keyOf(w.plan.Keys, w.script[w.bound[0][0]])
+	key, _ := streams.Key(w.plan.Keys, w.script[w.bound[0][0]])
 	stream := w.streams[key]
 	from, _ := slices.BinarySearch(stream, w.last()+1)
 	to, _ := slices.BinarySearch(stream, w.over())

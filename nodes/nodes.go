@@ -32,6 +32,15 @@ func Copies(l []api.Node) []api.Node {
 	return made
 }
 
+// Kept are copies of all of a list for what outlives the call that it was handed to. Lists of them that were one stay one, so that no tree grows.
+func Kept(l []api.Node) []api.Node {
+	made := make([]api.Node, len(l))
+	for i := range l {
+		made[i] = copiedOnce(l[i])
+	}
+	return made
+}
+
 // Copied is a copy of a node with lists of its own, no two of them one.
 func Copied(n api.Node) api.Node {
 	if tree.Count(&n, Args) > mostApart {

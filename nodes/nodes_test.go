@@ -75,3 +75,44 @@ func TestCopies(t *testing.T) {
 		t.Error("copies of none")
 	}
 }
+
+// What is kept is the same, shares no memory with what it is of, and is no greater, be lists shared as often as they will.
+func TestKept(t *testing.T) {
+	leaf := api.Node{Op: api.Cur, Attr: 3}
+	o := sample.Odd{Pick: rand.New(rand.NewPCG(15, 0)).IntN}
+	all := []api.Node{sample.Shared(api.OpAnd, 18, leaf), sample.Shared(api.OpAnd, 400, leaf), sample.Far(api.OpNot, 100000, leaf)}
+	for range 1000 {
+		all = append(all, o.Node(o.Pick(6)))
+	}
+	l := append(make([]api.Node, 0, 2*len(all)), all...)
+	kept := nodes.Kept(l)
+	met := map[*api.Node]struct{}{}
+	for i := range l {
+		for x := range tree.Upward(&l[i], nodes.Args) {
+			met[x] = struct{}{}
+		}
+	}
+	for i := range kept {
+		if !nodes.Same(l[i], kept[i]) {
+			t.Fatalf("%+v of %+v", kept[i], l[i])
+		}
+		count := 0
+		for x := range tree.Upward(&kept[i], nodes.Args) {
+			if _, ok := met[x]; ok {
+				t.Fatal("what is kept shares memory")
+			}
+			count++
+		}
+		if count > 100001 {
+			t.Errorf("there are %d nodes", count)
+		}
+	}
+	for width := 1; width < 6; width++ {
+		if m := nodes.Kept([]api.Node{sample.Circle(api.OpNot, width)})[0]; m.Op != api.OpNot || len(m.Args) != width || tree.Count(&m, nodes.Args) == math.MaxInt32 {
+			t.Errorf("a circle of %d: %+v", width, m)
+		}
+	}
+	if len(nodes.Kept(nil)) != 0 {
+		t.Error("something is kept of none")
+	}
+}

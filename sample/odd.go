@@ -56,6 +56,29 @@ func (o Odd) Plan() api.Plan {
 	return p
 }
 
+func (o Odd) Auto() api.Auto {
+	a := api.Auto{Strategy: o.Number(), Keys: o.Plan().Keys}
+	for i := range o.Pick(5) {
+		s := api.State{Parent: o.Pick(i+1) - 1, Type: max(0, o.Number()), Many: o.Pick(2) == 0, Window: int64(o.Pick(9)), Bars: o.bars(), Leaves: o.Nodes(), Guards: o.Nodes()}
+		if o.Pick(9) == 0 {
+			s.Parent, s.Type, s.Window = o.Number(), o.Number(), int64(o.Number())
+		}
+		for range o.Pick(3) {
+			s.Ends = append(s.Ends, api.End{Branch: max(o.Pick(2), o.Number()), Closes: o.Nodes(), Bars: o.bars()})
+		}
+		a.States = append(a.States, s)
+	}
+	return a
+}
+
+func (o Odd) bars() []api.Bar {
+	l := []api.Bar{}
+	for range o.Pick(3) * o.Pick(2) {
+		l = append(l, api.Bar{Type: o.Number(), Guards: o.Nodes()})
+	}
+	return l
+}
+
 // Circle is a node of so many Args, each of which is within itself, and within the others.
 func Circle(op, width int) api.Node {
 	l := make([]api.Node, width)

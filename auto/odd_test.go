@@ -110,27 +110,6 @@ func sortedById(p api.Plan) api.Plan {
 	return p
 }
 
-// lists are all lists of conditions of an automaton.
-func lists(automata ...api.Auto) [][]api.Node {
-	l := [][]api.Node{}
-	bars := func(all []api.Bar) {
-		for _, bar := range all[:cap(all)] {
-			l = append(l, bar.Guards)
-		}
-	}
-	for _, a := range automata {
-		for _, s := range a.States[:cap(a.States)] {
-			l = append(l, s.Leaves, s.Guards)
-			bars(s.Bars)
-			for _, end := range s.Ends[:cap(s.Ends)] {
-				l = append(l, end.Closes)
-				bars(end.Bars)
-			}
-		}
-	}
-	return l
-}
-
 // planLists are all lists of conditions of a plan.
 func planLists(plans ...api.Plan) [][]api.Node {
 	l := [][]api.Node{}
@@ -144,46 +123,18 @@ func planLists(plans ...api.Plan) [][]api.Node {
 	return l
 }
 
-// addresses are those of all that a list has room for.
-func addresses[T any](l []T) []any {
-	all, l := []any{}, l[:cap(l)]
-	for i := range l {
-		all = append(all, &l[i])
-	}
-	return all
-}
-
-// rooms are the addresses of all that an automaton has room for, conditions aside.
-func rooms(a api.Auto) []any {
-	l := append(addresses(a.Keys), addresses(a.States)...)
-	for _, s := range a.States[:cap(a.States)] {
-		l = append(append(l, addresses(s.Bars)...), addresses(s.Ends)...)
-		for _, end := range s.Ends[:cap(s.Ends)] {
-			l = append(l, addresses(end.Bars)...)
-		}
-	}
-	return l
-}
-
 func planRooms(p api.Plan) []any {
-	l := append(addresses(p.Keys), addresses(p.Branches)...)
+	l := append(sample.Addresses(p.Keys), sample.Addresses(p.Branches)...)
 	for _, b := range p.Branches[:cap(p.Branches)] {
-		l = append(l, addresses(b.Parts)...)
+		l = append(l, sample.Addresses(b.Parts)...)
 	}
 	return l
 }
 
-// wantApart tells of rooms that are met twice.
 func wantApart(t *testing.T, what string, all ...[]any) {
 	t.Helper()
-	met := map[any]bool{}
-	for _, l := range all {
-		for _, x := range l {
-			if met[x] {
-				t.Fatalf("%s: lists share memory", what)
-			}
-			met[x] = true
-		}
+	if !sample.Once(all...) {
+		t.Fatalf("%s: lists share memory", what)
 	}
 }
 
@@ -221,21 +172,21 @@ func TestMemory(t *testing.T) {
 	for _, p := range plans {
 		before := dump(p) + dump(p.Branches[:cap(p.Branches)])
 		first, second := built(t, p), built(t, p)
-		if dump(p)+dump(p.Branches[:cap(p.Branches)]) != before || !sample.Apart(lists(first, second), planLists(p)) {
+		if dump(p)+dump(p.Branches[:cap(p.Branches)]) != before || !sample.Apart(sample.AutoConditions(first, second), planLists(p)) {
 			t.Fatalf("Build of %s", before)
 		}
-		wantApart(t, "Build", addresses(p.Keys), rooms(first), rooms(second))
+		wantApart(t, "Build", sample.Addresses(p.Keys), sample.AutoRooms(first), sample.AutoRooms(second))
 	}
 	for _, a := range automata {
 		before := dump(a) + dump(a.States[:cap(a.States)])
 		first, second := auto.Plan(a), auto.Plan(a)
-		wantApart(t, "Path", addresses(auto.Path(a, 0)), addresses(auto.Path(a, 0)))
-		wantApart(t, "Children", addresses(auto.Children(a, -1)), addresses(auto.Children(a, -1)))
+		wantApart(t, "Path", sample.Addresses(auto.Path(a, 0)), sample.Addresses(auto.Path(a, 0)))
+		wantApart(t, "Children", sample.Addresses(auto.Children(a, -1)), sample.Addresses(auto.Children(a, -1)))
 		auto.Same(a, a)
 		auto.Good(a)
-		if dump(a)+dump(a.States[:cap(a.States)]) != before || !sample.Apart(planLists(first, second), lists(a)) {
+		if dump(a)+dump(a.States[:cap(a.States)]) != before || !sample.Apart(planLists(first, second), sample.AutoConditions(a)) {
 			t.Fatalf("Plan of %s", before)
 		}
-		wantApart(t, "Plan", addresses(a.Keys), planRooms(first), planRooms(second))
+		wantApart(t, "Plan", sample.Addresses(a.Keys), planRooms(first), planRooms(second))
 	}
 }

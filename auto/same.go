@@ -5,6 +5,7 @@ import (
 
 	"auspice/api"
 	"auspice/nodes"
+	"auspice/states"
 )
 
 func Same(a, b api.Auto) bool {
@@ -13,18 +14,10 @@ func Same(a, b api.Auto) bool {
 
 func sameState(x, y api.State) bool {
 	return x.Parent == y.Parent && x.Type == y.Type && x.Many == y.Many && x.Window == y.Window &&
-		slices.EqualFunc(x.Bars, y.Bars, sameBar) && sameNodes(x.Leaves, y.Leaves) && sameNodes(x.Guards, y.Guards) &&
+		states.SameBars(x.Bars, y.Bars) && nodes.AllSame(x.Leaves, y.Leaves) && nodes.AllSame(x.Guards, y.Guards) &&
 		slices.EqualFunc(x.Ends, y.Ends, sameEnd)
 }
 
-func sameBar(x, y api.Bar) bool {
-	return x.Type == y.Type && sameNodes(x.Guards, y.Guards)
-}
-
 func sameEnd(x, y api.End) bool {
-	return x.Branch == y.Branch && sameNodes(x.Closes, y.Closes) && slices.EqualFunc(x.Bars, y.Bars, sameBar)
-}
-
-func sameNodes(x, y []api.Node) bool {
-	return slices.EqualFunc(x, y, nodes.Same)
+	return x.Branch == y.Branch && nodes.AllSame(x.Closes, y.Closes) && states.SameBars(x.Bars, y.Bars)
 }

@@ -2,6 +2,8 @@
 package nodes
 
 import (
+	"slices"
+
 	"auspice/api"
 	"auspice/tree"
 )
@@ -16,6 +18,11 @@ func Args(n *api.Node) []api.Node {
 // Same tells whether two nodes are the same in all that they have.
 func Same(a, b api.Node) bool {
 	return tree.Same(&a, &b, Args, alike)
+}
+
+// AllSame tells whether two lists are the same, node by node.
+func AllSame(x, y []api.Node) bool {
+	return slices.EqualFunc(x, y, Same)
 }
 
 // alike tells whether two nodes are the same, Args aside.

@@ -76,6 +76,17 @@ func TestCopies(t *testing.T) {
 	}
 }
 
+func TestAllSame(t *testing.T) {
+	x, y := api.Node{Op: api.Cur, Attr: 1}, api.Node{Op: api.OpNot, Args: []api.Node{{Op: api.Of}}}
+	for i, l := range [][]api.Node{nil, {x}, {y}, {x, y}, {y, x}, {x, y, y}} {
+		for j, m := range [][]api.Node{{}, {x}, nodes.Copies([]api.Node{y}), {x, y}, {y, x}, {x, y, y}} {
+			if nodes.AllSame(l, m) != (i == j) {
+				t.Errorf("AllSame of %+v, %+v", l, m)
+			}
+		}
+	}
+}
+
 // What is kept is the same, shares no memory with what it is of, and is no greater, be lists shared as often as they will.
 func TestKept(t *testing.T) {
 	leaf := api.Node{Op: api.Cur, Attr: 3}

@@ -9,14 +9,6 @@ import (
 // timeAttr is the place of the time among an event's attributes.
 const timeAttr = -1
 
-func isLeaf(op int) bool {
-	switch op {
-	case api.Const, api.Cur, api.Of, api.Count, api.First, api.Last, api.Sum, api.Min, api.Max, api.Mean:
-		return true
-	}
-	return false
-}
-
 func (k Look) leaf(n *api.Node) api.Value {
 	switch n.Op {
 	case api.Const:

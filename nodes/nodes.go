@@ -15,6 +15,15 @@ func Args(n *api.Node) []api.Node {
 	return n.Args
 }
 
+// IsLeaf tells whether a node of that Op is what it is without Args.
+func IsLeaf(op int) bool {
+	switch op {
+	case api.Const, api.Cur, api.Of, api.Count, api.First, api.Last, api.Sum, api.Min, api.Max, api.Mean:
+		return true
+	}
+	return false
+}
+
 // Same tells whether two nodes are the same in all that they have.
 func Same(a, b api.Node) bool {
 	return tree.Same(&a, &b, Args, alike)

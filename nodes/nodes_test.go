@@ -76,6 +76,23 @@ func TestCopies(t *testing.T) {
 	}
 }
 
+func TestIsLeaf(t *testing.T) {
+	leaves := 0
+	for op := -100; op < 100; op++ {
+		if nodes.IsLeaf(op) {
+			leaves++
+		}
+	}
+	for _, op := range []int{api.Const, api.Cur, api.Of, api.Count, api.First, api.Last, api.Sum, api.Min, api.Max, api.Mean} {
+		if !nodes.IsLeaf(op) {
+			t.Errorf("%d is none", op)
+		}
+	}
+	if leaves != 10 || nodes.IsLeaf(math.MinInt) || nodes.IsLeaf(math.MaxInt) {
+		t.Errorf("there are %d", leaves)
+	}
+}
+
 func TestAllSame(t *testing.T) {
 	x, y := api.Node{Op: api.Cur, Attr: 1}, api.Node{Op: api.OpNot, Args: []api.Node{{Op: api.Of}}}
 	for i, l := range [][]api.Node{nil, {x}, {y}, {x, y}, {y, x}, {x, y, y}} {

@@ -1,4 +1,4 @@
-// Package states takes states of automata for what they are made of: copied, and held against each other, conditions by package nodes. It is no layer: layers whose calls take automata are built on it.
+// Package states takes states of automata for what they are made of: copied, and held against each other, conditions by package nodes; and for what leads to them. It is no layer: layers whose calls take automata, or tables of them, are built on it.
 package states
 
 import (
@@ -36,4 +36,18 @@ func copiedBars(l []api.Bar, copied func(l []api.Node) []api.Node) []api.Bar {
 		l[i].Guards = copied(l[i].Guards)
 	}
 	return l
+}
+
+// Path is the places of the states from a first one to the one at i, each the parent of the next. It begins at the first one, from i backwards, whose parent doesn't stand ahead of it; it is empty, where there is no state at i.
+func Path[T any](l []T, i int, parent func(s T) int) []int {
+	if i < 0 || i >= len(l) {
+		return nil
+	}
+	path := []int{i}
+	for at := parent(l[i]); at >= 0 && at < i; at = parent(l[i]) {
+		i = at
+		path = append(path, i)
+	}
+	slices.Reverse(path)
+	return path
 }

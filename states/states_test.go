@@ -2,7 +2,9 @@ package states_test
 
 import (
 	"fmt"
+	"math"
 	"math/rand/v2"
+	"slices"
 	"testing"
 
 	"auspice/api"
@@ -72,6 +74,31 @@ func TestCopiedBy(t *testing.T) {
 	for n := uint64(1); n <= 5; n++ {
 		if met[n] != 2 {
 			t.Errorf("%d is copied %d times", n, met[n])
+		}
+	}
+}
+
+// A path begins where a parent isn't ahead, or isn't there.
+func TestPath(t *testing.T) {
+	for _, c := range []struct{ parents, path []int }{
+		{nil, nil},
+		{[]int{-1}, []int{0}},
+		{[]int{-1, 0, 1, 2}, []int{0, 1, 2, 3}},
+		{[]int{-1, 0, 0, -1, 1}, []int{0, 1, 4}},
+		{[]int{-1, 0, 0, -1, 3, 3}, []int{3, 5}},
+		{[]int{-1, 0, 2}, []int{2}},
+		{[]int{-1, 1, 1}, []int{1, 2}},
+		{[]int{math.MaxInt, 3, math.MinInt, 1}, []int{1, 3}},
+		{[]int{0, math.MaxInt, math.MinInt}, []int{2}},
+	} {
+		same := func(parent int) int { return parent }
+		if got := states.Path(c.parents, len(c.parents)-1, same); !slices.Equal(got, c.path) {
+			t.Errorf("%v: %v, wanted %v", c.parents, got, c.path)
+		}
+		for _, i := range []int{math.MinInt, -1, len(c.parents), math.MaxInt} {
+			if got := states.Path(c.parents, i, same); len(got) > 0 {
+				t.Errorf("%v: %v to %d", c.parents, got, i)
+			}
 		}
 	}
 }

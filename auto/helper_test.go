@@ -6,27 +6,8 @@ import (
 
 	"auspice/api"
 	"auspice/auto"
-	"auspice/plan"
-	"auspice/query"
 	"auspice/sample"
 )
-
-// parsed is the plan of a query by Shop; false: it has none, being too long.
-func parsed(t *testing.T, text string) (api.Plan, bool) {
-	t.Helper()
-	q, at, err := query.Parse(text)
-	if err == api.ErrLong {
-		return api.Plan{}, false
-	}
-	if err != api.OK {
-		t.Fatalf("no query: %q: %d at %d", text, err, at)
-	}
-	p, at, err := plan.Make(sample.Shop(), q)
-	if err != api.OK {
-		t.Fatalf("no plan: %q: %d at %d", text, err, at)
-	}
-	return p, true
-}
 
 // asked is the plan of these branches with these conditions, none where the text is empty.
 func asked(t *testing.T, branches, conditions string) api.Plan {
@@ -34,7 +15,7 @@ func asked(t *testing.T, branches, conditions string) api.Plan {
 	if conditions != "" {
 		conditions = " WHERE " + conditions
 	}
-	p, ok := parsed(t, "PATTERN "+branches+conditions+" STRATEGY ANY WITHIN 9")
+	p, ok := sample.Planned("PATTERN " + branches + conditions + " STRATEGY ANY WITHIN 9")
 	if !ok {
 		t.Fatalf("too long: %s", conditions)
 	}

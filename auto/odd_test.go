@@ -164,7 +164,7 @@ func TestMemory(t *testing.T) {
 	m := &sample.Maker{Pick: rand.New(rand.NewPCG(14, 4)).IntN}
 	plans, automata := []api.Plan{sharedPlan(), several()}, []api.Auto{sharedAuto(), severalStates()}
 	for range 300 {
-		if p, ok := parsed(t, m.Query()); ok {
+		if p, ok := sample.Planned(m.Query()); ok {
 			plans = append(plans, p)
 		}
 		automata = append(automata, m.Auto(false))

@@ -17,7 +17,7 @@ func TestThereAndBack(t *testing.T) {
 	calls := []func(p api.Plan) api.Plan{rules.Fold, rules.Clean, rules.Move, rules.Tighten, rules.Once, rules.Apply}
 	left := 0
 	for range 20000 {
-		p, ok := parsed(t, m.Query())
+		p, ok := sample.Planned(m.Query())
 		if !ok {
 			continue
 		}

@@ -8,8 +8,6 @@ import (
 	"auspice/api"
 	"auspice/eval"
 	"auspice/fold"
-	"auspice/plan"
-	"auspice/query"
 	"auspice/sample"
 	"auspice/value"
 )
@@ -243,23 +241,6 @@ func TestNodeRandom(t *testing.T) {
 	}
 }
 
-// made is the plan of a query by Shop; false: it has none, being too long.
-func made(t *testing.T, text string) (api.Plan, bool) {
-	t.Helper()
-	q, at, err := query.Parse(text)
-	if err == api.ErrLong {
-		return api.Plan{}, false
-	}
-	if err != api.OK {
-		t.Fatalf("no query: %q: %d at %d", text, err, at)
-	}
-	p, at, err := plan.Make(sample.Shop(), q)
-	if err != api.OK {
-		t.Fatalf("no plan: %q: %d at %d", text, err, at)
-	}
-	return p, true
-}
-
 // looks are some at a script: of each position events of its type, none too.
 func looks(r *rand.Rand, b api.Branch, script []api.Event) []eval.Look {
 	l := []eval.Look{}
@@ -305,7 +286,7 @@ func TestNodeIsTheSame(t *testing.T) {
 		}
 	}
 	for range 20000 {
-		p, ok := made(t, m.Query())
+		p, ok := sample.Planned(m.Query())
 		if !ok {
 			continue
 		}

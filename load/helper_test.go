@@ -6,14 +6,9 @@ import (
 	"slices"
 	"testing"
 
-	"auspice/alloc"
 	"auspice/api"
-	"auspice/auto"
 	"auspice/load"
-	"auspice/plan"
-	"auspice/query"
 	"auspice/sample"
-	"auspice/ssa"
 	"auspice/vm"
 )
 
@@ -306,83 +301,22 @@ func wantAfter(t *testing.T, what string, x api.Table, change func(x *api.Table)
 	}
 }
 
-// planned is the plan of a query by Shop; false: it has none, being too long.
-func planned(t *testing.T, text string) (api.Plan, bool) {
+// built is the automaton of a plan, as the compiler may rewrite it.
+func built(t *testing.T, p api.Plan, level int) api.Auto {
 	t.Helper()
-	q, _, err := query.Parse(text)
-	if err == api.ErrLong {
-		return api.Plan{}, false
-	}
-	p, at, made := plan.Make(sample.Shop(), q)
-	if err != api.OK || made != api.OK {
-		t.Fatalf("no plan: %q: %d, %d at %d", text, err, made, at)
-	}
-	return p, true
-}
-
-func built(t *testing.T, p api.Plan) api.Auto {
-	t.Helper()
-	a, err := auto.Build(p)
-	if err != api.OK {
-		t.Fatalf("no automaton: %d", err)
+	a, ok := sample.Level(p, level)
+	if !ok {
+		t.Fatalf("no automaton: %+v", p)
 	}
 	return a
 }
 
-// coder gives codes to conditions.
-type coder struct {
-	*testing.T
-	share bool
-	regs  int
-	codes []api.Code
-}
-
-func (c *coder) code(l []api.Node) int {
-	if len(l) == 0 {
-		return -1
-	}
-	made, err := ssa.Make(l, c.share)
-	if err != api.OK {
-		c.Fatalf("no code: %d", err)
-	}
-	made, err = alloc.Fit(made, c.regs)
-	if err != api.OK {
-		c.Fatalf("no registers: %d", err)
-	}
-	for at, other := range c.codes {
-		if c.share && dump(other) == dump(made) {
-			return at
-		}
-	}
-	c.codes = append(c.codes, made)
-	return len(c.codes) - 1
-}
-
-func (c *coder) stops(bars []api.Bar) []api.Stop {
-	l := []api.Stop{}
-	for _, bar := range bars {
-		l = append(l, api.Stop{Type: bar.Type, Guard: c.code(bar.Guards)})
-	}
-	return l
-}
-
 // tableOf is an automaton, by Shop, as a table.
-func (c *coder) tableOf(a api.Auto) api.Table {
-	x := api.Table{Strategy: a.Strategy, Keys: slices.Clone(a.Keys), Syms: len(sample.Shop().Syms), Runs: 1, Cells: api.MaxLive}
-	for _, typ := range sample.Shop().Types {
-		kinds := []int{}
-		for _, field := range typ.Fields {
-			kinds = append(kinds, field.Kind)
-		}
-		x.Kinds = append(x.Kinds, kinds)
+func tableOf(t *testing.T, a api.Auto, share bool, regs int) api.Table {
+	t.Helper()
+	x, ok := (&sample.Coder{Share: share, Regs: regs}).Table(a)
+	if !ok {
+		t.Fatalf("no table: %+v", a)
 	}
-	for _, s := range a.States {
-		row := api.Row{Parent: s.Parent, Type: s.Type, Many: s.Many, Window: s.Window, Bars: c.stops(s.Bars), Leave: c.code(s.Leaves), Guard: c.code(s.Guards)}
-		for _, end := range s.Ends {
-			row.Ends = append(row.Ends, api.Tail{Branch: end.Branch, Close: c.code(end.Closes), Bars: c.stops(end.Bars)})
-		}
-		x.States = append(x.States, row)
-	}
-	x.Codes = c.codes
 	return x
 }

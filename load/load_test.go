@@ -79,12 +79,11 @@ func TestLoadRandom(t *testing.T) {
 	r := rand.New(rand.NewPCG(22, 3))
 	m, answers := &sample.Maker{Pick: r.IntN}, map[api.Errno]int{}
 	for range 2000 {
-		p, ok := planned(t, m.Query())
+		p, ok := sample.Planned(m.Query())
 		if !ok {
 			continue
 		}
-		c := &coder{T: t, share: true, regs: 4}
-		x := c.tableOf(built(t, p))
+		x := tableOf(t, built(t, p, 0), true, 4)
 		answers[wantLoad(t, encoded(t, x))]++
 		spoil(r, &x)
 		if b, err := image.Encode(x); err == api.OK {

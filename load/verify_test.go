@@ -9,8 +9,6 @@ import (
 
 	"auspice/api"
 	"auspice/load"
-	"auspice/merge"
-	"auspice/rules"
 	"auspice/sample"
 )
 
@@ -292,31 +290,16 @@ func TestLists(t *testing.T) {
 	}
 }
 
-// level is a plan as the compiler may rewrite it.
-func level(t *testing.T, p api.Plan, n int) api.Auto {
-	t.Helper()
-	switch n {
-	case 0:
-		return built(t, p)
-	case 1:
-		return built(t, rules.Fold(p))
-	case 2:
-		return built(t, rules.Apply(p))
-	}
-	return merge.Merge(built(t, rules.Apply(p)))
-}
-
 // P22.1: tables of queries' automata may be run; with a few things changed, against the chapter's words.
 func TestQueries(t *testing.T) {
 	r := rand.New(rand.NewPCG(22, 1))
 	m, answers, codes := &sample.Maker{Pick: r.IntN}, map[api.Errno]int{}, 0
 	for range 3000 {
-		p, ok := planned(t, m.Query())
+		p, ok := sample.Planned(m.Query())
 		if !ok {
 			continue
 		}
-		c := &coder{T: t, share: r.IntN(2) == 0, regs: 2 + r.IntN(3)}
-		x := c.tableOf(level(t, p, r.IntN(4)))
+		x := tableOf(t, built(t, p, r.IntN(4)), r.IntN(2) == 0, 2+r.IntN(3))
 		if err := wantVerify(t, "a query's", x); err != api.OK {
 			t.Fatalf("%d: %+v", err, x)
 		}
@@ -368,8 +351,7 @@ func TestAutomata(t *testing.T) {
 				s.Bars, s.Leaves = nil, nil
 			}
 		}
-		c := &coder{T: t, share: r.IntN(2) == 0, regs: 2}
-		answers[wantVerify(t, "an automaton's", c.tableOf(a))]++
+		answers[wantVerify(t, "an automaton's", tableOf(t, a, r.IntN(2) == 0, 2))]++
 	}
 	if answers[api.OK] < 500 || answers[api.ErrImage] < 500 {
 		t.Errorf("%v", answers)

@@ -8,33 +8,13 @@ import (
 
 	"auspice/api"
 	"auspice/auto"
-	"auspice/match"
-	"auspice/plan"
-	"auspice/query"
 	"auspice/sample"
 )
-
-// parsed is the plan of a query by Shop; false: it has none, being too long.
-func parsed(t *testing.T, text string) (api.Plan, bool) {
-	t.Helper()
-	q, at, err := query.Parse(text)
-	if err == api.ErrLong {
-		return api.Plan{}, false
-	}
-	if err != api.OK {
-		t.Fatalf("no query: %q: %d at %d", text, err, at)
-	}
-	p, at, err := plan.Make(sample.Shop(), q)
-	if err != api.OK {
-		t.Fatalf("no plan: %q: %d at %d", text, err, at)
-	}
-	return p, true
-}
 
 // made is the plan of a query by Shop that isn't too long.
 func made(t *testing.T, text string) api.Plan {
 	t.Helper()
-	p, ok := parsed(t, text)
+	p, ok := sample.Planned(text)
 	if !ok {
 		t.Fatalf("too long: %s", text)
 	}
@@ -53,15 +33,6 @@ func built(t *testing.T, p api.Plan) api.Auto {
 // dump is all that a thing has, lists written out, empty ones alike.
 func dump(x any) string {
 	return fmt.Sprintf("%+v", x)
-}
-
-// linesOf are matches as lines, a stroke between each two.
-func linesOf(l []api.Match) string {
-	lines := []string{}
-	for _, m := range l {
-		lines = append(lines, match.Line(m))
-	}
-	return strings.Join(lines, "|")
 }
 
 // told is a condition that is told apart from others by its number.

@@ -70,7 +70,7 @@ func TestPlanRandom(t *testing.T) {
 		if i%4 == 0 {
 			text = m.Query()
 		}
-		p, ok := parsed(t, text)
+		p, ok := sample.Planned(text)
 		if !ok {
 			continue
 		}

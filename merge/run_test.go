@@ -18,8 +18,8 @@ func wantRun(t *testing.T, s api.Schema, a, merged api.Auto, script []api.Event)
 	t.Helper()
 	wanted, wantedAt, wantedErr := step.Run(s, a, script)
 	got, at, err := step.Run(s, merged, script)
-	if linesOf(got) != linesOf(wanted) || at != wantedAt || err != wantedErr {
-		t.Fatalf("%+v\nover %v: %s, %d at %d; wanted %s, %d at %d", a, script, linesOf(got), err, at, linesOf(wanted), wantedErr, wantedAt)
+	if sample.Lines(got) != sample.Lines(wanted) || at != wantedAt || err != wantedErr {
+		t.Fatalf("%+v\nover %v: %s, %d at %d; wanted %s, %d at %d", a, script, sample.Lines(got), err, at, sample.Lines(wanted), wantedErr, wantedAt)
 	}
 	return got, err
 }
@@ -71,8 +71,8 @@ func TestAlive(t *testing.T) {
 		for at, e := range l {
 			wanted, _ := x.Push(e)
 			got, err := y.Push(e)
-			if err != api.OK || linesOf(got) != linesOf(wanted) {
-				t.Fatalf("%+v\nover %v, at %d: %s, %d, wanted %s", a, l, at, linesOf(got), err, linesOf(wanted))
+			if err != api.OK || sample.Lines(got) != sample.Lines(wanted) {
+				t.Fatalf("%+v\nover %v, at %d: %s, %d, wanted %s", a, l, at, sample.Lines(got), err, sample.Lines(wanted))
 			}
 			if y.Alive() > x.Alive() || y.Cells() != x.Cells() {
 				t.Fatalf("%+v\nover %v, at %d: %d alive, %d cells; ahead %d, %d", a, l, at, y.Alive(), y.Cells(), x.Alive(), x.Cells())
@@ -82,7 +82,7 @@ func TestAlive(t *testing.T) {
 			}
 			cells += y.Cells()
 		}
-		if got, wanted := linesOf(y.Close()), linesOf(x.Close()); got != wanted {
+		if got, wanted := sample.Lines(y.Close()), sample.Lines(x.Close()); got != wanted {
 			t.Fatalf("%+v\nover %v, closed: %s, wanted %s", a, l, got, wanted)
 		}
 	}
@@ -117,8 +117,8 @@ func TestOneChildClosed(t *testing.T) {
 				t.Errorf("%s, at %d: %d alive, %d", c.strategy, i, m.Alive(), err)
 			}
 		}
-		if linesOf(all) != c.told {
-			t.Errorf("%s: %s, wanted %s", c.strategy, linesOf(all), c.told)
+		if sample.Lines(all) != c.told {
+			t.Errorf("%s: %s, wanted %s", c.strategy, sample.Lines(all), c.told)
 		}
 	}
 }
@@ -132,7 +132,7 @@ func TestModel(t *testing.T) {
 		if i%4 == 0 {
 			text = m.Query()
 		}
-		p, ok := parsed(t, text)
+		p, ok := sample.Planned(text)
 		if !ok {
 			continue
 		}
@@ -141,8 +141,8 @@ func TestModel(t *testing.T) {
 		for _, a := range []api.Auto{built(t, p), built(t, rules.Apply(p))} {
 			merged := merge.Merge(a)
 			got, _, err := step.Run(sample.Shop(), merged, script)
-			if err != api.OK || linesOf(got) != linesOf(wanted) {
-				t.Fatalf("%s over %v: %s, %d; wanted %s", text, script, linesOf(got), err, linesOf(wanted))
+			if err != api.OK || sample.Lines(got) != sample.Lines(wanted) {
+				t.Fatalf("%s over %v: %s, %d; wanted %s", text, script, sample.Lines(got), err, sample.Lines(wanted))
 			}
 			if len(merged.States) < len(a.States) {
 				found[a.Strategy] += len(got)
@@ -161,8 +161,8 @@ func TestModelOfTrees(t *testing.T) {
 		a, script := twins(m, true), m.Script(8)
 		wanted, _, _ := model.Matches(sample.Shop(), auto.Plan(a), script)
 		got, _, err := step.Run(sample.Shop(), merge.Merge(a), script)
-		if err != api.OK || linesOf(got) != linesOf(wanted) {
-			t.Fatalf("%+v\nover %v: %s, %d; wanted %s", a, script, linesOf(got), err, linesOf(wanted))
+		if err != api.OK || sample.Lines(got) != sample.Lines(wanted) {
+			t.Fatalf("%+v\nover %v: %s, %d; wanted %s", a, script, sample.Lines(got), err, sample.Lines(wanted))
 		}
 	}
 }

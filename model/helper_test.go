@@ -9,11 +9,11 @@ import (
 
 	"auspice/api"
 	"auspice/event"
-	"auspice/match"
 	"auspice/model"
 	"auspice/plan"
 	"auspice/query"
 	"auspice/real"
+	"auspice/sample"
 )
 
 // market is the schema of the document's examples, and two types more: one whose n is another kind than the others', one without any attribute.
@@ -84,15 +84,7 @@ func told(t *testing.T, p api.Plan, l []api.Event) string {
 	if at != 0 || err != api.OK {
 		t.Fatalf("Matches: %d at %d", err, at)
 	}
-	return linesOf(found)
-}
-
-func linesOf(l []api.Match) string {
-	lines := []string{}
-	for _, m := range l {
-		lines = append(lines, match.Line(m))
-	}
-	return strings.Join(lines, "|")
+	return sample.Lines(found)
 }
 
 // bindings are all with at most so many positions, of so many events, whatever is asked of them.

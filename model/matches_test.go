@@ -119,7 +119,7 @@ func TestMatchOrder(t *testing.T) {
 func wantError(t *testing.T, s api.Schema, p api.Plan, l []api.Event, wantedAt int, wanted api.Errno) {
 	t.Helper()
 	if m, at, err := model.Matches(s, p, l); len(m) > 0 || at != wantedAt || err != wanted {
-		t.Errorf("Matches over %d events: %s, %d at %d, wanted %d at %d", len(l), linesOf(m), err, at, wanted, wantedAt)
+		t.Errorf("Matches over %d events: %s, %d at %d, wanted %d at %d", len(l), sample.Lines(m), err, at, wanted, wantedAt)
 	}
 }
 

@@ -153,8 +153,8 @@ func TestAnswersAreNew(t *testing.T) {
 	wanted := told(t, p, l)
 	a, _, _ := model.Matches(s, p, l)
 	b, _, _ := model.Matches(s, p, l)
-	if linesOf(a) != wanted || len(a) < 20 {
-		t.Fatalf("%d matches: %s", len(a), linesOf(a))
+	if sample.Lines(a) != wanted || len(a) < 20 {
+		t.Fatalf("%d matches: %s", len(a), sample.Lines(a))
 	}
 	mark := 1000
 	for i := range a {
@@ -178,7 +178,7 @@ func TestAnswersAreNew(t *testing.T) {
 			}
 		}
 	}
-	if linesOf(b) != wanted || told(t, p, l) != wanted {
+	if sample.Lines(b) != wanted || told(t, p, l) != wanted {
 		t.Error("two answers share memory")
 	}
 	x, y := model.Stream(nil, l, 0), model.Stream(nil, l, 0)

@@ -277,7 +277,7 @@ func TestRandom(t *testing.T) {
 				whole[sort] += len(matches)
 			}
 		}
-		if got, wanted := told(t, p, l), linesOf(match.Sort(wanted)); got != wanted {
+		if got, wanted := told(t, p, l), sample.Lines(match.Sort(wanted)); got != wanted {
 			t.Fatalf("%s over %v: %s, wanted %s", text, l, got, wanted)
 		}
 	}

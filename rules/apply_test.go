@@ -64,7 +64,7 @@ func TestApply(t *testing.T) {
 func TestApplyRandom(t *testing.T) {
 	m := &sample.Maker{Pick: rand.New(rand.NewPCG(13, 2)).IntN}
 	for range 10000 {
-		p, ok := made(t, m.Query())
+		p, ok := sample.Planned(m.Query())
 		if !ok {
 			continue
 		}
@@ -81,7 +81,7 @@ func TestApplyRandom(t *testing.T) {
 func TestStays(t *testing.T) {
 	m := &sample.Maker{Pick: rand.New(rand.NewPCG(13, 3)).IntN}
 	for range 10000 {
-		p, ok := made(t, m.Query())
+		p, ok := sample.Planned(m.Query())
 		if !ok {
 			continue
 		}
@@ -156,7 +156,7 @@ func TestMatchesStay(t *testing.T) {
 	changed, found := map[string]int{}, map[string]int{}
 	for range 5000 {
 		s := stand{text: m.Query()}
-		p, ok := made(t, s.text)
+		p, ok := sample.Planned(s.text)
 		if !ok {
 			continue
 		}

@@ -8,8 +8,6 @@ import (
 	"auspice/api"
 	"auspice/match"
 	"auspice/model"
-	"auspice/plan"
-	"auspice/query"
 	"auspice/rules"
 	"auspice/sample"
 )
@@ -24,30 +22,13 @@ func calls() []call {
 	return []call{{"Fold", rules.Fold}, {"Clean", rules.Clean}, {"Move", rules.Move}, {"Tighten", rules.Tighten}, {"Once", rules.Once}, {"Apply", rules.Apply}}
 }
 
-// made is the plan of a query by Shop; false: it has none, being too long.
-func made(t *testing.T, text string) (api.Plan, bool) {
-	t.Helper()
-	q, at, err := query.Parse(text)
-	if err == api.ErrLong {
-		return api.Plan{}, false
-	}
-	if err != api.OK {
-		t.Fatalf("no query: %q: %d at %d", text, err, at)
-	}
-	p, at, err := plan.Make(sample.Shop(), q)
-	if err != api.OK {
-		t.Fatalf("no plan: %q: %d at %d", text, err, at)
-	}
-	return p, true
-}
-
 // asked is the plan of these branches with these conditions, none where the text is empty.
 func asked(t *testing.T, branches, conditions, strategy string, window int) api.Plan {
 	t.Helper()
 	if conditions != "" {
 		conditions = " WHERE " + conditions
 	}
-	p, ok := made(t, fmt.Sprintf("PATTERN %s%s STRATEGY %s WITHIN %d", branches, conditions, strategy, window))
+	p, ok := sample.Planned(fmt.Sprintf("PATTERN %s%s STRATEGY %s WITHIN %d", branches, conditions, strategy, window))
 	if !ok {
 		t.Fatalf("too long: %s", conditions)
 	}

@@ -118,7 +118,7 @@ func TestMemory(t *testing.T) {
 	m := &sample.Maker{Pick: rand.New(rand.NewPCG(13, 6)).IntN}
 	plans := []api.Plan{shared(t), {}, {Keys: make([]int, 0, 3), Branches: make([]api.Branch, 0, 3)}}
 	for range 200 {
-		if p, ok := made(t, m.Query()); ok {
+		if p, ok := sample.Planned(m.Query()); ok {
 			plans = append(plans, p, rules.Fold(p), rules.Clean(p))
 		}
 	}

@@ -77,3 +77,95 @@ func (m *Maker) ofBinding() api.Node {
 	}
 	return n
 }
+
+// Fitting is an automaton as Auto's, but such that a table of it may be run: its conditions look at no more than there is.
+func (m *Maker) Fitting() api.Auto {
+	a := m.Auto(false)
+	if len(a.Keys) > 0 {
+		a.Keys[bare] = -1
+	}
+	for i := range a.States {
+		s, path := &a.States[i], pathTo(a, i)
+		ahead := sight{path[:len(path)-1], len(path) - 1, nowhere}
+		if s.Parent < 0 {
+			s.Bars, s.Leaves = nil, nil
+		}
+		ahead.fit(s.Leaves)
+		ahead.fitBars(s.Bars)
+		sight{path, len(path) - 1, s.Type}.fit(s.Guards)
+		whole := sight{path, len(path), nowhere}
+		for j := range s.Ends {
+			whole.fit(s.Ends[j].Closes)
+			whole.fitBars(s.Ends[j].Bars)
+		}
+	}
+	return a
+}
+
+func pathTo(a api.Auto, i int) []api.State {
+	if i < 0 {
+		return nil
+	}
+	return append(pathTo(a, a.States[i].Parent), a.States[i])
+}
+
+// nowhere is the type of the event that is asked, where none is.
+const nowhere = -1
+
+// sight is what conditions may look at: a path's positions, of those of a One only so many first ones, and an event of a type.
+type sight struct {
+	path  []api.State
+	ones  int
+	asked int
+}
+
+func (s sight) fitBars(bars []api.Bar) {
+	for i := range bars {
+		s.asked = bars[i].Type
+		s.fit(bars[i].Guards)
+	}
+}
+
+func (s sight) fit(l []api.Node) {
+	for i := range l {
+		n := &l[i]
+		switch {
+		case n.Op == api.Cur:
+			n.Attr = ofType(s.asked, n.Attr)
+		case n.Op == api.Of || n.Op >= api.Count && n.Op <= api.Mean:
+			s.fitLeaf(n)
+		}
+		s.fit(n.Args)
+	}
+}
+
+// fitLeaf makes it look at the positions that it may look at, round and round; where it may look at none it is a constant.
+func (s sight) fitLeaf(n *api.Node) {
+	free := s.path[:s.ones]
+	if len(s.path) > s.ones && s.path[s.ones].Many {
+		free = s.path
+	}
+	if len(free) == 0 {
+		*n = api.Node{Op: api.Const, Kind: api.Int, Value: Int(int64(n.Pos))}
+		return
+	}
+	n.Pos %= len(free)
+	at := free[n.Pos]
+	if !at.Many {
+		n.Op = api.Of
+	} else if n.Op == api.Of {
+		n.Op = api.First
+	}
+	if n.Op == api.Count {
+		return
+	}
+	n.Attr = ofType(at.Type, 2*min(n.Attr, 0)+1) // the time or x
+}
+
+// ofType is an attribute that a type has, the time where it hasn't that one.
+func ofType(typ, attr int) int {
+	if typ == bare {
+		return -1
+	}
+	return attr
+}

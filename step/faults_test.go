@@ -19,7 +19,7 @@ const quiet = "PATTERN SEQ(A+ a, !B b) | SEQ(A c) STRATEGY ANY WITHIN 5"
 func wantRefused(t *testing.T, what string, m *step.Machine, e api.Event, wanted api.Errno) {
 	t.Helper()
 	if l, err := m.Push(e); len(l) > 0 || err != wanted {
-		t.Errorf("%s: %s, %d, wanted %d", what, linesOf(l), err, wanted)
+		t.Errorf("%s: %s, %d, wanted %d", what, sample.Lines(l), err, wanted)
 	}
 }
 
@@ -51,9 +51,9 @@ func TestNew(t *testing.T) {
 		if m, err := step.New(sample.Shop(), a); m != nil || err != api.ErrForm {
 			t.Errorf("%d: %v, %d", i, m, err)
 		}
-		for _, l := range [][]api.Event{nil, script(t, "A 0"), {{Type: 77}}} {
+		for _, l := range [][]api.Event{nil, sample.Events("A 0"), {{Type: 77}}} {
 			if found, at, err := step.Run(sample.Shop(), a, l); len(found) > 0 || at != 0 || err != api.ErrForm {
-				t.Errorf("%d: %s, %d at %d", i, linesOf(found), err, at)
+				t.Errorf("%d: %s, %d at %d", i, sample.Lines(found), err, at)
 			}
 		}
 	}
@@ -107,7 +107,7 @@ func wantLatched(t *testing.T, what string, e api.Event, wanted api.Errno, good 
 			wantRefused(t, what+", behind it", m, other, wanted)
 		}
 		if l := m.Close(); len(l) > 0 {
-			t.Errorf("%s: closed: %s", what, linesOf(l))
+			t.Errorf("%s: closed: %s", what, sample.Lines(l))
 		}
 	}
 }
@@ -127,13 +127,13 @@ func TestFaultySchema(t *testing.T) {
 func TestClose(t *testing.T) {
 	m := machine(t, made(t, quiet))
 	if l := m.Close(); len(l) > 0 || state(m) != "0 0" {
-		t.Errorf("closed at first: %s", linesOf(l))
+		t.Errorf("closed at first: %s", sample.Lines(l))
 	}
 	m = machine(t, made(t, quiet))
-	for _, e := range script(t, "A 5|C 6|A 7|B 7|A 8|A 8") {
+	for _, e := range sample.Events("A 5|C 6|A 7|B 7|A 8|A 8") {
 		pushed(t, m, e)
 	}
-	if got := linesOf(m.Close()); got != "6 0: 0 2 4|6 0: 0 2 4 5|6 0: 0 2 5|6 0: 0 4|6 0: 0 4 5|6 0: 0 5|6 0: 2 4|6 0: 2 4 5|6 0: 2 5|6 0: 4|6 0: 4 5|6 0: 5" {
+	if got := sample.Lines(m.Close()); got != "6 0: 0 2 4|6 0: 0 2 4 5|6 0: 0 2 5|6 0: 0 4|6 0: 0 4 5|6 0: 0 5|6 0: 2 4|6 0: 2 4 5|6 0: 2 5|6 0: 4|6 0: 4 5|6 0: 5" {
 		t.Errorf("closed: %s", got)
 	}
 	for range 2 {
@@ -141,7 +141,7 @@ func TestClose(t *testing.T) {
 			wantRefused(t, "behind Close", m, e, api.ErrArg)
 		}
 		if l := m.Close(); len(l) > 0 || state(m) != "0 0" {
-			t.Errorf("closed again: %s, %s alive", linesOf(l), state(m))
+			t.Errorf("closed again: %s, %s alive", sample.Lines(l), state(m))
 		}
 	}
 }
@@ -161,17 +161,17 @@ func TestRun(t *testing.T) {
 		{"A 5|A 6|C 11|A 10|A 12", "0 1: 0|1 1: 1|2 0: 0|2 0: 0 1", 3, api.ErrTime},
 		{"A 5|A 4", "0 1: 0", 1, api.ErrTime},
 	} {
-		found, at, err := step.Run(sample.Shop(), a, script(t, c.events))
-		if linesOf(found) != c.wanted || at != c.at || err != c.err {
-			t.Errorf("%s: %s, %d at %d; wanted %s, %d at %d", c.events, linesOf(found), err, at, c.wanted, c.err, c.at)
+		found, at, err := step.Run(sample.Shop(), a, sample.Events(c.events))
+		if sample.Lines(found) != c.wanted || at != c.at || err != c.err {
+			t.Errorf("%s: %s, %d at %d; wanted %s, %d at %d", c.events, sample.Lines(found), err, at, c.wanted, c.err, c.at)
 		}
 	}
 	for at := range 3 {
-		l := script(t, "A 5|A 6|C 6")
+		l := sample.Events("A 5|A 6|C 6")
 		l[at].Type = 9
 		found, got, err := step.Run(sample.Shop(), a, l)
-		if linesOf(found) != []string{"", "0 1: 0", "0 1: 0|1 1: 1"}[at] || got != at || err != api.ErrEvent {
-			t.Errorf("wrong at %d: %s, %d at %d", at, linesOf(found), err, got)
+		if sample.Lines(found) != []string{"", "0 1: 0", "0 1: 0|1 1: 1"}[at] || got != at || err != api.ErrEvent {
+			t.Errorf("wrong at %d: %s, %d at %d", at, sample.Lines(found), err, got)
 		}
 	}
 }
@@ -200,8 +200,8 @@ func TestRunRandom(t *testing.T) {
 		for len(again) > 0 && again[len(again)-1].Step >= at {
 			again = again[:len(again)-1]
 		}
-		if linesOf(found) != linesOf(again) {
-			t.Fatalf("%+v over %v: %s, wanted %s", a, l, linesOf(found), linesOf(again))
+		if sample.Lines(found) != sample.Lines(again) {
+			t.Fatalf("%+v over %v: %s, wanted %s", a, l, sample.Lines(found), sample.Lines(again))
 		}
 	}
 	if faults[api.OK] < 500 || faults[api.ErrEvent] < 500 || faults[api.ErrTime] < 500 {
@@ -211,8 +211,8 @@ func TestRunRandom(t *testing.T) {
 
 // P15.6: where a script is faulty Run has layer 11's error and place.
 func TestModelFaults(t *testing.T) {
-	p, _ := parsed(t, quiet)
-	for _, l := range [][]api.Event{script(t, "A 5|A 4"), {{Type: 9}}, script(t, "A 5|C 7|A 6|A 5")} {
+	p, _ := sample.Planned(quiet)
+	for _, l := range [][]api.Event{sample.Events("A 5|A 4"), {{Type: 9}}, sample.Events("A 5|C 7|A 6|A 5")} {
 		_, at, err := step.Run(sample.Shop(), built(t, p), l)
 		if _, wantedAt, wanted := model.Matches(sample.Shop(), p, l); at != wantedAt || err != wanted || err == api.OK {
 			t.Errorf("%v: %d at %d, wanted %d at %d", l, err, at, wanted, wantedAt)
@@ -287,8 +287,8 @@ func TestOddConditions(t *testing.T) {
 			{Parent: -1, Many: true, Window: 9, Guards: l, Ends: []api.End{{Closes: l}}},
 			{Parent: 0, Type: 1, Window: 9, Bars: []api.Bar{{Type: 1, Guards: l}}, Leaves: l, Guards: l, Ends: []api.End{{Branch: 1, Closes: l}, {Branch: 2, Bars: []api.Bar{{Type: 2, Guards: l}}}}},
 		}}
-		found, at, err := step.Run(sample.Shop(), a, script(t, "A 0|A 0|B 0|C 0"))
-		if got := linesOf(found); at != 0 || err != api.OK || got != c.told {
+		found, at, err := step.Run(sample.Shop(), a, sample.Events("A 0|A 0|B 0|C 0"))
+		if got := sample.Lines(found); at != 0 || err != api.OK || got != c.told {
 			t.Errorf("%s, %d at %d; wanted %s", got, err, at, c.told)
 		}
 	}

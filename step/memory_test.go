@@ -78,7 +78,7 @@ func TestNothingIsKept(t *testing.T) {
 	for range 10000 {
 		a, l, s := m.Auto(false), m.Script(10), sample.Shop()
 		wanted, _, _ := step.Run(s, a, l)
-		text, lines := dump(a), linesOf(wanted)
+		text, lines := dump(a), sample.Lines(wanted)
 		x, err := step.New(s, a)
 		if err != api.OK {
 			t.Fatalf("New: %d", err)
@@ -91,7 +91,7 @@ func TestNothingIsKept(t *testing.T) {
 		got := []string{}
 		take := func(l []api.Match) {
 			if len(l) > 0 {
-				got = append(got, linesOf(l))
+				got = append(got, sample.Lines(l))
 			}
 			spoilMatches(l)
 		}
@@ -142,10 +142,10 @@ func TestArgumentsStay(t *testing.T) {
 		if rooms(s, a, l) != before {
 			t.Fatalf("Run changes %s, now %s", before, rooms(s, a, l))
 		}
-		lines := linesOf(found)
+		lines := sample.Lines(found)
 		again, _, _ := step.Run(s, a, l)
 		spoilMatches(again)
-		if linesOf(found) != lines {
+		if sample.Lines(found) != lines {
 			t.Fatal("two answers share memory")
 		}
 	}
@@ -165,7 +165,7 @@ func rooms(s api.Schema, a api.Auto, l []api.Event) string {
 
 // The rule on memory: no two lists of one answer are one.
 func TestListsApart(t *testing.T) {
-	all, _, _ := step.Run(sample.Shop(), made(t, "PATTERN SEQ(A+ a, A+ b) | SEQ(A+ c, !B d) | SEQ(A+ e, A+ f) STRATEGY ANY WITHIN 9"), script(t, "A 0|A 0|A 0|A 0|A 0"))
+	all, _, _ := step.Run(sample.Shop(), made(t, "PATTERN SEQ(A+ a, A+ b) | SEQ(A+ c, !B d) | SEQ(A+ e, A+ f) STRATEGY ANY WITHIN 9"), sample.Events("A 0|A 0|A 0|A 0|A 0"))
 	if len(all) < 100 {
 		t.Fatalf("there are %d matches", len(all))
 	}

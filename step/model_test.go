@@ -20,8 +20,8 @@ func wantModel(t *testing.T, what string, a api.Auto, p api.Plan, script []api.E
 		t.Fatalf("%s: Matches: %d at %d", what, err, at)
 	}
 	got, at, err := step.Run(sample.Shop(), a, script)
-	if at != 0 || err != api.OK || linesOf(got) != linesOf(wanted) {
-		t.Fatalf("%s over %v: %s, %d at %d; wanted %s", what, script, linesOf(got), err, at, linesOf(wanted))
+	if at != 0 || err != api.OK || sample.Lines(got) != sample.Lines(wanted) {
+		t.Fatalf("%s over %v: %s, %d at %d; wanted %s", what, script, sample.Lines(got), err, at, sample.Lines(wanted))
 	}
 	return len(got)
 }
@@ -32,7 +32,7 @@ func TestModel(t *testing.T) {
 	found := map[int]int{}
 	for range 20000 {
 		text := m.Query()
-		p, ok := parsed(t, text)
+		p, ok := sample.Planned(text)
 		if !ok {
 			continue
 		}

@@ -219,8 +219,8 @@ func TestRandomAutomata(t *testing.T) {
 		o, x := &literal{a: a}, machine(t, a)
 		for i, e := range l {
 			wanted := o.push(e)
-			if got := pushed(t, x, e); got != linesOf(wanted) || state(x) != o.alive() {
-				t.Fatalf("%+v\nover %v, at %d: %s, alive %s; wanted %s, %s", a, l, i, got, state(x), linesOf(wanted), o.alive())
+			if got := pushed(t, x, e); got != sample.Lines(wanted) || state(x) != o.alive() {
+				t.Fatalf("%+v\nover %v, at %d: %s, alive %s; wanted %s, %s", a, l, i, got, state(x), sample.Lines(wanted), o.alive())
 			}
 			told[a.Strategy] += len(wanted)
 		}
@@ -228,7 +228,7 @@ func TestRandomAutomata(t *testing.T) {
 		for _, r := range o.runs {
 			closed += len(r.closed)
 		}
-		if got, wanted := linesOf(x.Close()), linesOf(o.close()); got != wanted || state(x) != "0 0" {
+		if got, wanted := sample.Lines(x.Close()), sample.Lines(o.close()); got != wanted || state(x) != "0 0" {
 			t.Fatalf("%+v\nover %v, closed: %s, alive %s; wanted %s", a, l, got, state(x), wanted)
 		}
 	}

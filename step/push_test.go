@@ -24,7 +24,7 @@ func wantTurns(t *testing.T, what string, a api.Auto, turns ...turn) {
 	for i, c := range turns {
 		told := ""
 		if c.event == "" {
-			told = linesOf(m.Close())
+			told = sample.Lines(m.Close())
 			c.alive = "0 0"
 		} else {
 			told = pushed(t, m, one(t, c.event))
@@ -266,7 +266,7 @@ func TestKeys(t *testing.T) {
 		script = append(script, api.Event{Type: 1, Attrs: []api.Value{sample.Int(7), sample.Real(bits)}})
 	}
 	l, at, err := step.Run(s, a, script)
-	if got := linesOf(l); got != "3 0: 2; 3|4 0: 0; 4|5 0: 1; 5" || at != 0 || err != api.OK {
+	if got := sample.Lines(l); got != "3 0: 2; 3|4 0: 0; 4|5 0: 1; 5" || at != 0 || err != api.OK {
 		t.Errorf("%s, %d at %d", got, err, at)
 	}
 }

@@ -272,10 +272,14 @@ func TestManyRuns(t *testing.T) {
 func TestVeryManyEnds(t *testing.T) {
 	x := api.Table{Strategy: api.Any, Kinds: [][]int{nil, nil}, Runs: 5, Cells: 5, States: []api.Row{{Parent: -1, Many: true, Window: 9, Leave: -1, Guard: -1}}}
 	x.States[0].Ends = slices.Repeat([]api.Tail{{Close: -1, Bars: []api.Stop{{Type: 1, Guard: -1}}}}, 1<<20)
-	before := heap()
 	r := runner(t, x)
-	kept := heap() - before
+	var before, behind runtime.MemStats
+	runtime.ReadMemStats(&before)
 	wantRefused(t, "very many", r, api.Event{}, api.ErrRuns)
+	runtime.ReadMemStats(&behind)
+	if made := behind.TotalAlloc - before.TotalAlloc; made > 1<<20 {
+		t.Errorf("%d bytes are made", made)
+	}
 	wantLatched(t, "very many", r, 0, api.ErrRuns, api.Event{}, api.Event{Type: 1})
 	x.States[0].Ends = x.States[0].Ends[:4]
 	r = runner(t, x)
@@ -286,7 +290,4 @@ func TestVeryManyEnds(t *testing.T) {
 		t.Errorf("%s, %s alive", got, state(r))
 	}
 	wantRefused(t, "one more", r, api.Event{}, api.ErrRuns)
-	if kept > 1<<28 {
-		t.Errorf("%d bytes are kept", kept)
-	}
 }

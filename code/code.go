@@ -1,7 +1,11 @@
 // Package code takes instructions for what they name: registers, slots, inputs, constants. It is no layer: layers whose calls take code are built on it.
 package code
 
-import "auspice/api"
+import (
+	"slices"
+
+	"auspice/api"
+)
 
 // Operands is how many operands an operator has; 0: it is none.
 func Operands(op int) int {
@@ -67,4 +71,9 @@ func There(c api.Code, i api.Ins) bool {
 
 func below(at, bound int) bool {
 	return at >= 0 && at < bound
+}
+
+// Same tells whether two codes are the same in all that they have.
+func Same(a, b api.Code) bool {
+	return a.Regs == b.Regs && a.Slots == b.Slots && slices.Equal(a.Inputs, b.Inputs) && slices.Equal(a.Consts, b.Consts) && slices.Equal(a.List, b.List)
 }

@@ -127,3 +127,28 @@ func TestThere(t *testing.T) {
 		}
 	}
 }
+
+func TestSame(t *testing.T) {
+	made := func() api.Code {
+		return api.Code{Regs: 1, Slots: 2, Inputs: make([]api.Input, 3), Consts: make([]api.Value, 4), List: make([]api.Ins, 5)}
+	}
+	if !code.Same(made(), made()) || !code.Same(api.Code{}, api.Code{Inputs: []api.Input{}, Consts: []api.Value{}, List: []api.Ins{}}) {
+		t.Error("code isn't the same as it is")
+	}
+	for i, change := range []func(c *api.Code){
+		func(c *api.Code) { c.Regs++ },
+		func(c *api.Code) { c.Slots-- },
+		func(c *api.Code) { c.Inputs = c.Inputs[:2] },
+		func(c *api.Code) { c.Inputs[2].Attr = -1 },
+		func(c *api.Code) { c.Consts = nil },
+		func(c *api.Code) { c.Consts[3].Bits = 1 },
+		func(c *api.Code) { c.List = append(c.List, api.Ins{}) },
+		func(c *api.Code) { c.List[4].B = 1 },
+	} {
+		c := made()
+		change(&c)
+		if code.Same(c, made()) || code.Same(made(), c) {
+			t.Errorf("the change %d: the same", i)
+		}
+	}
+}

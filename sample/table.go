@@ -6,6 +6,7 @@ import (
 	"auspice/alloc"
 	"auspice/api"
 	"auspice/auto"
+	"auspice/code"
 	"auspice/event"
 	"auspice/merge"
 	"auspice/rules"
@@ -73,13 +74,9 @@ func (c *Coder) code(l []api.Node) int {
 		c.err = err
 		return -1
 	}
-	if at := slices.IndexFunc(c.codes, func(x api.Code) bool { return sameCode(x, made) }); at >= 0 && c.Share {
+	if at := slices.IndexFunc(c.codes, func(x api.Code) bool { return code.Same(x, made) }); at >= 0 && c.Share {
 		return at
 	}
 	c.codes = append(c.codes, made)
 	return len(c.codes) - 1
-}
-
-func sameCode(a, b api.Code) bool {
-	return a.Regs == b.Regs && a.Slots == b.Slots && slices.Equal(a.Inputs, b.Inputs) && slices.Equal(a.Consts, b.Consts) && slices.Equal(a.List, b.List)
 }

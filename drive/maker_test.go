@@ -3,6 +3,7 @@ package drive_test
 import (
 	"math"
 	"math/rand/v2"
+	"slices"
 	"strconv"
 	"strings"
 
@@ -96,8 +97,8 @@ func (w *world) condition(b int) string {
 			s.items = append(s.items, x)
 		}
 	}
-	if w.IntN(60) == 0 {
-		s.items = w.all[w.IntN(len(w.all))]
+	if w.IntN(25) == 0 { // of other branches too, or of several Nots: this may be no place for it
+		s.items = slices.Concat(w.all[w.IntN(len(w.all))], s.items, w.all[b])
 	}
 	switch w.IntN(8) {
 	case 0:

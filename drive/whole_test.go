@@ -81,7 +81,7 @@ func TestAccepted(t *testing.T) {
 		}
 	}
 	for _, err := range []api.Errno{api.OK, api.ErrName, api.ErrKind, api.ErrToken, api.ErrSyntax, api.ErrPlace, api.ErrBound} {
-		if errs[err] < 20 {
+		if errs[err] < 40 {
 			t.Errorf("%v", errs)
 		}
 	}

@@ -165,7 +165,7 @@ func TestQueries(t *testing.T) {
 			others = others[1:]
 		}
 	}
-	if same < 50 || not < 20000 {
+	if same < 30 || not < 20000 {
 		t.Errorf("%d are another's, %d not", same, not)
 	}
 }

@@ -1,6 +1,8 @@
 package prove_test
 
 import (
+	"fmt"
+	"math"
 	"math/rand/v2"
 	"slices"
 	"testing"
@@ -119,10 +121,10 @@ func alikeByWords(a, b api.Node) bool {
 		}
 	}
 	switch {
-	case isOperator(a.Op):
-		return true
 	case a.Op == api.Const:
 		return a.Value == b.Value
+	case isOperator(a.Op) || len(a.Args) > 0:
+		return true
 	}
 	return a.Kind == b.Kind && a.Pos == b.Pos && a.Attr == b.Attr
 }
@@ -139,35 +141,66 @@ func wantAlike(t *testing.T, what string, a, b api.Node, wanted bool) {
 	}
 }
 
-// P25.2: what is looked at of each node, and what isn't.
+// lookedAt are the names of what is looked at of a node: of a Const its Value, of an operator, and of one that has Args, its Op alone, of other leaves, whatever their Op, all but the Value.
+func lookedAt(op, args int) []string {
+	switch {
+	case op == api.Const:
+		return []string{"Op", "Value.Kind", "Value.Bits"}
+	case isOperator(op) || args > 0:
+		return []string{"Op"}
+	}
+	return []string{"Op", "Kind", "Pos", "Attr"}
+}
+
+// P25.2: what is looked at of each node, and what isn't: of those that there are, and of those made by hand, with any Op and with Args or without.
 func TestAlike(t *testing.T) {
 	names := []string{"Op", "Kind", "Value.Kind", "Value.Bits", "Pos", "Attr"} // of sample's Changes
+	args := []api.Node{constant(sample.Int(1)), leaf(api.Of, api.Int, 1, 2), leaf(api.Sum, 0, 0, 2)}
+	deep := func(n api.Node) api.Node {
+		return of(api.OpOr, api.Bool, constant(sample.Bool(0)), of(api.OpNot, api.Bool, n))
+	}
+	ops := []int{math.MinInt, -1, 99, math.MaxInt - 1}
 	for op := range 60 {
-		seen := []string{"Op", "Kind", "Pos", "Attr"}
-		switch {
-		case isOperator(op):
-			seen = seen[:1]
-		case op == api.Const:
-			seen = []string{"Op", "Value.Kind", "Value.Bits"}
-		}
-		n := api.Node{Op: op, Kind: api.Int, Value: sample.Int(5), Pos: 2, Attr: 3}
-		if isOperator(op) {
-			n.Args = []api.Node{constant(sample.Int(1)), leaf(api.Of, api.Int, 1, 2)}
-			if ofOne(op) {
-				n.Args = n.Args[1:]
+		ops = append(ops, op)
+	}
+	for _, op := range ops {
+		for count := range len(args) + 1 {
+			n, seen := api.Node{Op: op, Kind: api.Int, Value: sample.Int(5), Pos: 2, Attr: 3, Args: args[:count]}, lookedAt(op, count)
+			for i, change := range sample.Changes() {
+				m := n
+				change(&m)
+				what, wanted := fmt.Sprintf("%s of Op %d with %d Args", names[i], op, count), !slices.Contains(seen, names[i])
+				wantAlike(t, what, n, m, wanted)
+				wantAlike(t, what+", below", deep(n), deep(m), wanted)
+				wantAlike(t, what+", below one of its Op", of(op, 0, n), of(op, 0, m), wanted)
 			}
-		}
-		for i, change := range sample.Changes() {
-			m := n
-			change(&m)
-			wanted := !slices.Contains(seen, names[i])
-			wantAlike(t, names[i], n, m, wanted)
-			deep := func(n api.Node) api.Node {
-				return of(api.OpOr, api.Bool, constant(sample.Bool(0)), of(api.OpNot, api.Bool, n))
-			}
-			wantAlike(t, names[i]+", below", deep(n), deep(m), wanted)
 		}
 	}
+}
+
+// P25.2: a node that has Args is no leaf, whatever its Op is: its Kind, Pos and Attr aren't looked at; its Args are.
+func TestAlikeNoLeaf(t *testing.T) {
+	cur, last := leaf(api.Cur, 0, 0, 3), leaf(api.Last, 0, 0, 2)
+	three := api.Node{Op: api.Const, Value: sample.Int(3)}
+	for _, op := range []int{math.MaxInt, math.MinInt, 0, -1, 99, api.LitInt, api.Attr, api.Cur, api.Of, api.Count, api.Mean, api.InsTell} {
+		for _, args := range [][]api.Node{{cur}, {last, three}, {of(op, 0, cur), last, cur}} {
+			plain, other := of(op, 0, args...), of(op, 7, args...)
+			other.Pos, other.Attr, other.Value = -4, math.MaxInt, sample.Bool(1)
+			wantAlike(t, "no leaf", plain, other, true)
+			wantAlike(t, "no leaf, below", of(op, 0, last, plain), of(op, 0, last, other), true)
+			other.Args = nil
+			wantAlike(t, "without Args", plain, other, false)
+			wantAlike(t, "a leaf", of(op, 0), other, false)
+			other.Args = slices.Clone(args)
+			other.Args[len(args)-1].Op++
+			wantAlike(t, "another one below", plain, other, false)
+			other.Args = slices.Clone(args)
+			other.Args[0] = leaf(args[0].Op, 0, 0, 9)
+			wantAlike(t, "a leaf with another Attr below", plain, other, false)
+		}
+	}
+	wantAlike(t, "Consts with Args", api.Node{Op: api.Const, Kind: 1, Pos: 2, Attr: 3, Args: []api.Node{cur}}, api.Node{Op: api.Const, Args: []api.Node{cur}}, true)
+	wantAlike(t, "Consts with Args, of other Values", api.Node{Op: api.Const, Args: []api.Node{cur}}, api.Node{Op: api.Const, Value: sample.Int(0), Args: []api.Node{cur}}, false)
 }
 
 // P25.2: as many Args, in their order.
